@@ -1,0 +1,1 @@
+"""Lotback: lots poured through tanks, and which sold units can be bad."""

@@ -1,0 +1,82 @@
+"""Numbers on ways, so that each end has as many coming in as going out."""
+
+
+class Flow:
+    """Numbers on ways (one, other, least, greatest), at first the least ones.
+
+    extra tells of each end how many more come in than go out; settle makes
+    it 0 everywhere, if the ways let it.
+    """
+
+    def __init__(self, ways):
+        self.ways = ways
+        self.passing = []
+        self.extra = {}
+        self.touching = {}
+        for k, way in enumerate(ways):
+            self.add_way(k, way)
+
+    def add_way(self, k, way):
+        """Let the least number pass on way k."""
+        one, other, least, _ = way
+        self.passing.append(least)
+        for end in (one, other):
+            self.extra.setdefault(end, 0)
+            self.touching.setdefault(end, []).append(k)
+        self.extra[one] -= least
+        self.extra[other] += least
+
+    def room(self, k, end):
+        """How many more can leave an end by way k: forward, or by not coming to it."""
+        one, _, least, greatest = self.ways[k]
+        if end == one:
+            return greatest - self.passing[k]
+        return self.passing[k] - least
+
+    def far_end(self, k, end):
+        """The other end of way k."""
+        one, other, _, _ = self.ways[k]
+        return other if end == one else one
+
+    def reached(self):
+        """A dict of the ends that the extra can get to, each with the pair (way, end before), or None."""
+        steps = {end: None for end in self.extra if self.extra[end] > 0}
+        layer = list(steps)
+        while len(layer) > 0:
+            beyond = []
+            for end in layer:
+                for k in self.touching[end]:
+                    far = self.far_end(k, end)
+                    if far not in steps and self.room(k, end) > 0:
+                        steps[far] = (k, end)
+                        beyond.append(far)
+            layer = beyond
+        return steps
+
+    def push_to(self, goal, steps):
+        """Pass as many as possible along the steps that lead to an end that lacks some."""
+        trail = []
+        end = goal
+        while steps[end] is not None:
+            trail.append(steps[end])
+            end = steps[end][1]
+        rooms = [self.room(k, at) for k, at in trail]
+        many = min([self.extra[end], -self.extra[goal], *rooms])
+        for k, at in trail:
+            if at == self.ways[k][0]:
+                self.passing[k] += many
+            else:
+                self.passing[k] -= many
+        self.extra[end] -= many
+        self.extra[goal] += many
+
+    def settle(self):
+        """None behind which all is even; or the dict of the ends from which the extra cannot get away."""
+        steps = self.reached()
+        while len(steps) > 0:
+            lacking = [end for end in steps if self.extra[end] < 0]
+            if len(lacking) == 0:
+                return steps
+            self.push_to(lacking[0], steps)
+            steps = self.reached()
+        return None

@@ -1,0 +1,175 @@
+"""A slow model, written from the definitions alone, unit by unit; and random cases."""
+import itertools
+import random
+
+
+class Units:
+    """Every unit on its own: a heap is a number of units, a pipe a list of the parcels they came with."""
+
+    def __init__(self, places):
+        self.kinds = dict(places)
+        self.there = {place: [] for place in self.kinds}
+        self.many = []
+        self.parts = []
+        self.states = []
+        self.rows = []
+        self.note()
+
+    def note(self):
+        self.states.append({place: list(units) for place, units in self.there.items()})
+
+    def do(self, row):
+        t = len(self.rows)
+        word = row[0]
+        if word == "come":
+            parts, many, goal = ((None, row[3]),), row[3], row[1]
+        elif word == "back":
+            many, goal = self.many[row[1]], row[2]
+            parts = ((row[1], many),)
+        else:
+            many, goal = row[-1], row[2] if word == "move" else None
+            taken = [self.there[row[1]].pop(0) for _ in range(many)]
+            parts = tuple((s, len(list(group))) for s, group in itertools.groupby(taken))
+        if goal is not None:
+            self.there[goal].extend([t if self.kinds[goal] == "pipe" else None] * many)
+        self.rows.append(row)
+        self.many.append(many)
+        self.parts.append(parts)
+        self.note()
+
+
+def units_of_book(book):
+    """The Units behind all rows."""
+    units = Units(book[0])
+    for row in book[1]:
+        units.do(row)
+    return units
+
+
+def ways_to_take(pile, n):
+    """The pairs (bad, pile left) of taking n out of (good, bad)."""
+    good, bad = pile
+    return [(b, (good - (n - b), bad - b)) for b in range(n + 1) if b <= bad and n - b <= good]
+
+
+def model_stories(case):
+    """All possible stories of a case, as a set, by moving good and bad units."""
+    (places, rows), findings, suspects, few = case
+    kinds = dict(places)
+    found = {t: word for word, t in findings}
+    start = {place: ((None, (0, 0)),) if kind == "heap" else () for place, kind in places}
+    states = [((), start, frozenset())]
+    for t, row in enumerate(rows):
+        states = [new for state in states for new in model_steps(kinds, rows, t, state, suspects)]
+        states = [state for state in states if holds(found.get(t), sum(state[0][t]))]
+        states = [state for state in states if len(state[2]) <= few]
+    return {story for story, _, _ in states}
+
+
+def holds(word, bad):
+    return word is None or (bad > 0) == (word == "bad")
+
+
+def model_steps(kinds, rows, t, state, suspects):
+    story, there, guilty = state
+    row = rows[t]
+    if row[0] == "come":
+        most = row[3] if row[2] in suspects else 0
+        for bad in range(most + 1):
+            blamed = guilty | {row[2]} if bad else guilty
+            yield (*story, (bad,)), put(kinds, there, row[1], t, row[3] - bad, bad), blamed
+    elif row[0] == "back":
+        bad = sum(story[row[1]])
+        yield (*story, (bad,)), put(kinds, there, row[2], t, rows[row[1]][2] - bad, bad), guilty
+    else:
+        for numbers, queue in takings(there[row[1]], row[-1]):
+            after = dict(there)
+            after[row[1]] = queue
+            if row[0] == "move":
+                after = put(kinds, after, row[2], t, row[3] - sum(numbers), sum(numbers))
+            yield (*story, numbers), after, guilty
+
+
+def put(kinds, there, place, t, good, bad):
+    after = dict(there)
+    if kinds[place] == "heap":
+        _, (had_good, had_bad) = there[place][0]
+        after[place] = ((None, (had_good + good, had_bad + bad)),)
+    else:
+        after[place] = (*there[place], (t, (good, bad)))
+    return after
+
+
+def takings(queue, n):
+    """The pairs (numbers of bad units, queue left) of taking n from the front."""
+    if n == 0:
+        yield (), queue
+        return
+    s, pile = queue[0]
+    m = min(n, sum(pile))
+    for bad, left in ways_to_take(pile, m):
+        rest = queue[1:]
+        if sum(left) > 0 or s is None:
+            rest = ((s, left), *rest)
+        for numbers, after in takings(rest, n - m) if n > m else [((), rest)]:
+            yield (bad, *numbers), after
+
+
+def all_tuples(book, beyond=0):
+    """Every story-like tuple, with numbers up to so many more than a part has units."""
+    rows = [list(itertools.product(*[range(m + 1 + beyond) for _, m in parts]))
+            for parts in units_of_book(book).parts]
+    return itertools.product(*rows)
+
+
+PLACES = [("keg", "heap"), ("line", "pipe"), ("rack", "pipe"), ("tank", "heap")]
+LOTS = ["ash", "birch", "cedar", "dogwood", "elm"]
+
+
+def random_book(seed, rows, most=3, places=None):
+    """Any book with so many rows of at most so many units."""
+    dice = random.Random(seed)
+    if places is None:
+        places = dice.sample(PLACES, dice.randint(1, 4))
+    units = Units(tuple(sorted(places)))
+    names = sorted(units.kinds)
+    while len(units.rows) < rows:
+        row = random_row(dice, units, names, most)
+        if row is not None:
+            units.do(row)
+    return tuple(sorted(places)), tuple(units.rows)
+
+
+def random_row(dice, units, names, most):
+    word = dice.choice(["come", "come", "move", "move", "move", "sell", "sell", "waste", "back"])
+    if word == "come":
+        return (word, dice.choice(names), dice.choice(LOTS), dice.randint(1, most))
+    if word == "back":
+        back = [row[1] for row in units.rows if row[0] == "back"]
+        sales = [t for t, row in enumerate(units.rows) if row[0] == "sell" and t not in back]
+        return (word, dice.choice(sales), dice.choice(names)) if sales else None
+    one = dice.choice(names)
+    high = min(most, len(units.there[one]))
+    if high == 0:
+        return None
+    n = dice.randint(1, high)
+    if word != "move":
+        return (word, one, n)
+    others = [name for name in names if name != one]
+    return (word, one, dice.choice(others), n) if others else None
+
+
+def random_case(seed, rows, most=3, places=None, findings=3):
+    """Any case of any such book."""
+    dice = random.Random(seed * 7 + 1)
+    book = random_book(seed, rows, most, places)
+    about = dice.sample(range(len(book[1])), min(dice.randint(0, findings), len(book[1])))
+    found = tuple(sorted((dice.choice(["bad", "bad", "clean"]), t) for t in about))
+    suspects = tuple(sorted(dice.sample(LOTS, dice.randint(0, 5))))
+    return book, found, suspects, dice.randint(0, 3)
+
+
+def lot_sets(case):
+    """All sets of at most few suspects."""
+    _, _, suspects, few = case
+    return [lots for k in range(few + 1) for lots in itertools.combinations(suspects, k)]
