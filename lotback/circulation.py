@@ -38,45 +38,47 @@ class Flow:
         one, other, _, _ = self.ways[k]
         return other if end == one else one
 
-    def reached(self):
-        """A dict of the ends that the extra can get to, each with the pair (way, end before), or None."""
-        steps = {end: None for end in self.extra if self.extra[end] > 0}
-        layer = list(steps)
+    def leading_to(self, goal):
+        """A dict of the ends from which more can get to goal, each with the pair (way, next end)."""
+        steps = {goal: None}
+        layer = [goal]
         while len(layer) > 0:
             beyond = []
             for end in layer:
                 for k in self.touching[end]:
                     far = self.far_end(k, end)
-                    if far not in steps and self.room(k, end) > 0:
+                    if far not in steps and self.room(k, far) > 0:
                         steps[far] = (k, end)
                         beyond.append(far)
             layer = beyond
         return steps
 
-    def push_to(self, goal, steps):
-        """Pass as many as possible along the steps that lead to an end that lacks some."""
+    def push(self, start, goal, steps):
+        """Pass as many as possible from an end with some extra to one that lacks some."""
         trail = []
-        end = goal
-        while steps[end] is not None:
-            trail.append(steps[end])
-            end = steps[end][1]
+        end = start
+        while end != goal:
+            k, following = steps[end]
+            trail.append((k, end))
+            end = following
         rooms = [self.room(k, at) for k, at in trail]
-        many = min([self.extra[end], -self.extra[goal], *rooms])
+        many = min([self.extra[start], -self.extra[goal], *rooms])
         for k, at in trail:
             if at == self.ways[k][0]:
                 self.passing[k] += many
             else:
                 self.passing[k] -= many
-        self.extra[end] -= many
+        self.extra[start] -= many
         self.extra[goal] += many
 
     def settle(self):
-        """None behind which all is even; or the dict of the ends from which the extra cannot get away."""
-        steps = self.reached()
-        while len(steps) > 0:
-            lacking = [end for end in steps if self.extra[end] < 0]
-            if len(lacking) == 0:
-                return steps
-            self.push_to(lacking[0], steps)
-            steps = self.reached()
+        """None behind which all is even; or a dict of ends to which no more can get, though they lack some."""
+        lacking = [end for end in self.extra if self.extra[end] < 0]
+        for goal in lacking:
+            while self.extra[goal] < 0:
+                steps = self.leading_to(goal)
+                starts = [end for end in steps if self.extra[end] > 0]
+                if len(starts) == 0:
+                    return steps
+                self.push(starts[0], goal, steps)
         return None

@@ -1,7 +1,7 @@
 """Stories by a set of lots, or barriers that bar them."""
 from lotback.bookways import part_ones
 from lotback.circulation import Flow
-from lotback.points import case_ways, points_of, set_sums
+from lotback.points import case_ways, points_of
 from lotback.usable import check_lots
 
 
@@ -13,21 +13,21 @@ def story_told(book, flow):
     ])
 
 
-def points_told(book, reached):
-    """The barrier that the ends tell from which too many cannot get away."""
-    if None in reached:
-        # A barrier has points alone: with outside among the ends it is all the others.
-        return tuple([point for point in points_of(book) if point not in reached])
-    return tuple([point for point in points_of(book) if point in reached])
+def points_told(book, ends):
+    """The barrier that ends tell which lack some, and to which no more can get."""
+    if None in ends:
+        # A barrier has points alone: what outside lacks is too much for all other points.
+        return tuple([point for point in points_of(book) if point not in ends])
+    return tuple(sorted(list(ends)))
 
 
 def answer(case, lots):
     """The pair (story, None) or (None, barrier) by lots, which need not be few or suspects."""
     flow = Flow(case_ways(case, lots))
-    reached = flow.settle()
-    if reached is None:
+    ends = flow.settle()
+    if ends is None:
         return story_told(case[0], flow), None
-    return None, points_told(case[0], reached)
+    return None, points_told(case[0], ends)
 
 
 def story_by(case, lots):
@@ -45,11 +45,7 @@ def barrier_by(case, lots):
 
 
 def helpful_lots(case, lots, points):
-    """Other suspects that can come into a barrier for lots: any story is by one of them, too."""
-    _, must_come, can_go, _ = set_sums(case_ways(case, lots), points)
-    if must_come > can_go:
-        # No lot changes what must come in or can go out.
-        return ()
+    """Other suspects that come into a barrier for lots: by none of the rest can there be a story."""
     inside = {point: True for point in points}
     coming = [row[2] for t, row in enumerate(case[0][1]) if row[0] == "come" and ("in", t) in inside]
     return tuple([lot for lot in case[2] if lot in coming and lot not in lots])
@@ -58,7 +54,7 @@ def helpful_lots(case, lots, points):
 def story_of(case):
     """Any possible story, or None."""
     if answer(case, case[2])[0] is None:
-        # More lots bar no story: so no few of the suspects have one, either.
+        # With fewer lots no barrier is lost.
         return None
     waiting = [()]
     seen = {(): True}
