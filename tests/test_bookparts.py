@@ -45,6 +45,11 @@ class Parts(Exact):
         self.exactly([came(LONG, lot) for lot in lots_of(LONG)], [7, 4, 6])
         self.exactly(lots_of(EMPTY), ())
 
+    def test_a_lot_with_the_name_of_a_place(self):
+        book = (BOOK[0], (("come", "tank", "line", 3), ("move", "tank", "line", 2), ("sell", "line", 1), ("back", 2, "line")))
+        self.exactly((lots_of(book), came(book, "line")), (("line",), 3))
+        self.raising(UnknownLot("tank"), came, book, "tank")
+
     def test_sales_outside(self):
         self.exactly(sales_outside(LONG), (10, 13))
         self.exactly(sales_outside(BOOK), (3, 5))

@@ -161,7 +161,7 @@ class Checker(Exact):
         self.told(True, lets_explain, both, ("ash", "cedar"), ("story", story))
 
     def test_point(self):
-        for odd in [*ODD, ("in", 6), ("in", True), ["in", 1], ("heap", "tank", 4), ("heap", "line", 0), None]:
+        for odd in [*ODD, (), ("in", 6), ("in", True), ["in", 1], ("heap", "tank", 4), ("heap", "line", 0), None]:
             self.refused("point", 0, PURE, ("ash",), ("barrier", (odd,)))
             self.refused("point", 4, PURE, ("ash",), ("barrier", (*WALL, odd, odd)))
         self.refused("point", 1, PURE, ("ash",), ("barrier", WALL[::-1]))

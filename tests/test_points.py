@@ -209,7 +209,7 @@ class Sums(Exact):
         for call in (sums_of, is_barrier):
             for points in [None, [], [("in", 5)], "", 3, True]:
                 self.raising(NotUsable("points", -1), call, CASE, ("ash",), points)
-            for odd in [*ODD, ("in", 6), ("in", True), ("in", -1), ("out", False), ["in", 1], ("heap", "tank", 4), ("in", "1"),
+            for odd in [*ODD, (), ("in", 6), ("in", True), ("in", -1), ("out", False), ["in", 1], ("heap", "tank", 4), ("in", "1"),
                         ("heap", "tank", True), ("heap", "line", 0), ("heap", "tank"), ("heap", 0, "tank"), (None, 1), ("in",),
                         ("in", 1, 1), "in", ("In", 1), (("in",), 1), ("in", (1,)), ("in", 10 ** 60), ("heap", ["tank"], 0)]:
                 self.raising(NotUsable("points", 0), call, CASE, ("ash",), (odd,))
