@@ -38,19 +38,23 @@ class Flow:
         one, other, _, _ = self.ways[k]
         return other if end == one else one
 
+    def layer_before(self, layer, steps):
+        """The ends from which more can get into a layer by one way, noted in steps, where they were not yet."""
+        before = []
+        for end in layer:
+            for k in self.touching[end]:
+                far = self.far_end(k, end)
+                if far not in steps and self.room(k, far) > 0:
+                    steps[far] = (k, end)
+                    before.append(far)
+        return before
+
     def leading_to(self, goal):
         """A dict of the ends from which more can get to goal, each with the pair (way, next end)."""
         steps = {goal: None}
         layer = [goal]
         while len(layer) > 0:
-            beyond = []
-            for end in layer:
-                for k in self.touching[end]:
-                    far = self.far_end(k, end)
-                    if far not in steps and self.room(k, far) > 0:
-                        steps[far] = (k, end)
-                        beyond.append(far)
-            layer = beyond
+            layer = self.layer_before(layer, steps)
         return steps
 
     def push(self, start, goal, steps):

@@ -36,6 +36,47 @@ def functions_in(tree):
     return [node for node in ast.walk(tree) if isinstance(node, ast.FunctionDef)]
 
 
+MODIFYING = set("append clear extend insert pop remove reverse setdefault update add discard".split())
+
+
+def walked_by(iterated):
+    """What a loop walks, as written: names, attributes and items, also through enumerate and its kin."""
+    if isinstance(iterated, ast.IfExp):
+        return walked_by(iterated.body) | walked_by(iterated.orelse)
+    if isinstance(iterated, ast.BoolOp):
+        return set().union(*[walked_by(part) for part in iterated.values])
+    if isinstance(iterated, ast.Call) and isinstance(iterated.func, ast.Name) and iterated.func.id in ("enumerate", "zip", "reversed"):
+        return set().union(*[walked_by(part) for part in iterated.args])
+    if isinstance(iterated, ast.Call) and isinstance(iterated.func, ast.Attribute) and iterated.func.attr in ("items", "keys", "values"):
+        return walked_by(iterated.func.value)
+    if isinstance(iterated, (ast.Name, ast.Attribute, ast.Subscript)):
+        return {ast.unparse(iterated)}
+    return set()
+
+
+def modified_in(node):
+    """What the rows of a loop modify, as written."""
+    for part in ast.walk(node):
+        if isinstance(part, ast.Call) and isinstance(part.func, ast.Attribute) and part.func.attr in MODIFYING:
+            yield ast.unparse(part.func.value)
+        elif isinstance(part, ast.Subscript) and not isinstance(part.ctx, ast.Load):
+            yield ast.unparse(part.value)
+        elif isinstance(part, ast.AugAssign):
+            yield ast.unparse(part.target)
+
+
+def same_things(function):
+    """A dict: of each name or attribute those that are assigned it in a function, or that it is assigned."""
+    same = {}
+    for part in ast.walk(function):
+        if isinstance(part, ast.Assign) and isinstance(part.value, (ast.Name, ast.Attribute, ast.Subscript)):
+            group = {ast.unparse(side) for side in (part.value, *part.targets)}
+            group = group.union(*[same.get(side, set()) for side in group])
+            for side in group:
+                same[side] = group
+    return same
+
+
 class Language(unittest.TestCase):
     def setUp(self):
         self.texts = {path.stem: path.read_text(encoding="utf-8") for path in FILES}
@@ -133,6 +174,17 @@ class Language(unittest.TestCase):
                 for part in node.args:
                     if isinstance(part, ast.Starred):
                         self.assertIsInstance(part.value, (ast.Name, ast.Attribute), where)
+
+    def test_what_a_loop_walks_is_not_changed_in_it(self):
+        for name, tree in self.trees.items():
+            for function in functions_in(tree):
+                same = same_things(function)
+                for node in ast.walk(function):
+                    if isinstance(node, ast.For):
+                        walked = walked_by(node.iter)
+                        walked = walked.union(*[same.get(thing, set()) for thing in walked])
+                        changed = {thing for row in node.body for thing in modified_in(row)}
+                        self.assertEqual(walked & changed, set(), f"{name}:{node.lineno}")
 
     def test_docstrings(self):
         for name, tree in self.trees.items():
