@@ -9,22 +9,39 @@ class Flow:
     """
 
     def __init__(self, ways):
-        self.ways = ways
+        self.ways = []
         self.passing = []
         self.extra = {}
         self.touching = {}
-        for k, way in enumerate(ways):
-            self.add_way(k, way)
+        for way in ways:
+            self.add_way(way)
 
-    def add_way(self, k, way):
-        """Let the least number pass on way k."""
+    def add_end(self, end):
+        """Let there be an end, if there is none such."""
+        self.extra.setdefault(end, 0)
+        self.touching.setdefault(end, [])
+
+    def add_way(self, way):
+        """Let there be a way, and the least number pass on it."""
         one, other, least, _ = way
+        self.add_end(one)
+        self.add_end(other)
+        self.touching[one].append(len(self.ways))
+        self.touching[other].append(len(self.ways))
+        self.ways.append(way)
         self.passing.append(least)
-        for end in (one, other):
-            self.extra.setdefault(end, 0)
-            self.touching.setdefault(end, []).append(k)
         self.extra[one] -= least
         self.extra[other] += least
+
+    def lead_away(self, k, end):
+        """Let way k lead to another end, with room for one more than before."""
+        one, other, least, greatest = self.ways[k]
+        self.add_end(end)
+        self.touching[other].remove(k)
+        self.touching[end].append(k)
+        self.ways[k] = (one, end, least, greatest + 1)
+        self.extra[other] -= self.passing[k]
+        self.extra[end] += self.passing[k]
 
     def room(self, k, end):
         """How many more can leave an end by way k: forward, or by not coming to it."""
@@ -39,7 +56,7 @@ class Flow:
         return other if end == one else one
 
     def layer_before(self, layer, steps):
-        """The ends from which more can get into a layer by one way, noted in steps, where they were not yet."""
+        """The ends from which more get into a layer by one way, noted in steps, where they were not yet."""
         before = []
         for end in layer:
             for k in self.touching[end]:
@@ -50,15 +67,15 @@ class Flow:
         return before
 
     def leading_to(self, goal):
-        """A dict of the ends from which more can get to goal, each with the pair (way, next end)."""
+        """A dict of the ends from which more can get to goal, nearer ones first, each with the pair (way, next end)."""
         steps = {goal: None}
         layer = [goal]
         while len(layer) > 0:
             layer = self.layer_before(layer, steps)
         return steps
 
-    def push(self, start, goal, steps):
-        """Pass as many as possible from an end with some extra to one that lacks some."""
+    def push(self, start, goal, steps, most):
+        """Pass as many more as possible, up to most, from start to goal along the steps; tell how many."""
         trail = []
         end = start
         while end != goal:
@@ -66,7 +83,7 @@ class Flow:
             trail.append((k, end))
             end = following
         rooms = [self.room(k, at) for k, at in trail]
-        many = min([self.extra[start], -self.extra[goal], *rooms])
+        many = min([most, *rooms])
         for k, at in trail:
             if at == self.ways[k][0]:
                 self.passing[k] += many
@@ -74,6 +91,7 @@ class Flow:
                 self.passing[k] -= many
         self.extra[start] -= many
         self.extra[goal] += many
+        return many
 
     def settle(self):
         """None behind which all is even; or a dict of ends to which no more can get, though they lack some."""
@@ -84,5 +102,16 @@ class Flow:
                 starts = [end for end in steps if self.extra[end] > 0]
                 if len(starts) == 0:
                     return steps
-                self.push(starts[0], goal, steps)
+                self.push(starts[0], goal, steps, min(self.extra[starts[0]], -self.extra[goal]))
         return None
+
+    def pass_more(self, start, goal, most):
+        """Pass up to so many more from start to goal.
+
+        Returns the pair of how many could not, and of the ends from which still more can get to goal.
+        """
+        steps = self.leading_to(goal)
+        while most > 0 and start in steps:
+            most -= self.push(start, goal, steps, most)
+            steps = self.leading_to(goal)
+        return most, steps

@@ -2,6 +2,8 @@
 import copy
 import unittest
 
+from lotback.errors import NotUsable
+
 ROWS = (('come', 'tank', 'ash', 4), ('come', 'tank', 'birch', 4), ('move', 'tank', 'line', 5),
         ('sell', 'tank', 2), ('come', 'line', 'cedar', 3), ('sell', 'line', 6))
 BOOK = ((('line', 'pipe'), ('tank', 'heap')), ROWS)
@@ -37,6 +39,26 @@ def nested(depth, kind):
     return thing
 
 
+def with_changes(thing):
+    """Yield values in which one thing is changed, at any depth."""
+    if isinstance(thing, tuple):
+        yield list(thing)
+        yield None
+        for k, part in enumerate(thing):
+            for other in with_changes(part):
+                yield (*thing[:k], other, *thing[k + 1:])
+            yield (*thing[:k], *thing[k + 1:])
+            yield (*thing[:k], part, part, *thing[k + 1:])
+            if k > 0:
+                yield (*thing[:k - 1], part, thing[k - 1], *thing[k + 1:])
+    elif isinstance(thing, str):
+        yield from ("", thing + "x", None, thing.upper())
+    elif isinstance(thing, int):
+        yield from (thing + 1, thing - 1, str(thing), None, True, False)
+    else:
+        yield from (0, ())
+
+
 # Any values that are neither names, numbers, places, rows, findings, tuples of
 # these, books, cases nor stories.
 ODD = [None, True, False, -1, "", "Ash", "toolongname", "a b", "ash\n", "caf1", [], [1], ["ash"], [()],
@@ -44,6 +66,12 @@ ODD = [None, True, False, -1, "", "Ash", "toolongname", "a b", "ash\n", "caf1", 
        ("bad",), ("bad", -1), ("bad", True), ["bad", 1], ("clean", "1"), ("worse", 1), ("come",),
        nested(30, tuple), nested(30, list), ("come", nested(28, tuple), "ash", 1), -10 ** 59,
        [("tank", "heap")], (("tank", "heap"), 3)]
+
+
+# A case in which lots and sales of all kinds can be wrong: sales 1 (came back), 3, 5; no sales 0, 2, 4.
+MANY = (((("tank", "heap"), ("tin", "pipe")), (
+    ("come", "tank", "ash", 4), ("sell", "tank", 2), ("back", 1, "tank"), ("sell", "tank", 1), ("come", "tin", "birch", 3),
+    ("sell", "tin", 2), ("waste", "tank", 1), ("sell", "tank", 1))), (), ("ash", "birch", "cedar"), 2)
 
 
 def fields_of(error):
@@ -72,6 +100,36 @@ class Exact(unittest.TestCase):
             self.fail(f"nothing raised for {args!r} {more!r}, but {got!r}")
         if kept is not None:
             self.assertEqual(repr(kept), repr(args))
+
+    def wrong_lots(self, call, *more, ahead=()):
+        """The call, of case, lots (behind what stands ahead) and more, refuses all that is no set of suspects."""
+        def refused(at, case, lots):
+            self.raising(NotUsable("lots", at), call, case, *ahead, lots, *more)
+        for lots in [None, [], ["ash"], "ash", 3, True, {}, ("ash", "birch", "cedar"), (None, None, None), ("ash",) * 3]:
+            refused(-1, MANY, lots)
+        refused(-1, (*MANY[:3], 0), ("ash",))
+        for odd in [*ODD, "elm", "Ash", ("ash",), ["ash"], 0, BOOK]:
+            refused(0, MANY, (odd,))
+            refused(1, MANY, ("ash", odd))
+            refused(0, MANY, (odd, None))
+        refused(1, MANY, ("ash", "ash"))
+        refused(1, MANY, ("birch", "ash"))
+        refused(0, (*MANY[:2], (), 2), ("ash",))
+
+    def wrong_sales(self, call, *more, ahead=()):
+        """The call, of case, sales and more, refuses all that is no set of sales outside."""
+        def refused(at, sales):
+            self.raising(NotUsable("sales", at), call, MANY, *ahead, sales, *more)
+        for sales in [None, [], [3], "3", "", 3, True, {}]:
+            refused(-1, sales)
+        for odd in [*ODD, 0, 1, 2, 4, 6, 8, 10 ** 60, "3", (3,), [3], MANY]:
+            refused(0, (odd,))
+            refused(1, (3, odd))
+            refused(0, (odd, None))
+            refused(2, (3, 5, odd, 7))
+        refused(1, (3, 3))
+        refused(1, (5, 3))
+        refused(2, (3, 7, 5))
 
     def told(self, wanted, call, *args, **more):
         """The call returns exactly this, and changes no argument."""

@@ -173,3 +173,33 @@ def lot_sets(case):
     """All sets of at most few suspects."""
     _, _, suspects, few = case
     return [lots for k in range(few + 1) for lots in itertools.combinations(suspects, k)]
+
+
+def guilty_by_model(book, story):
+    """The set of the lots with bad units in a story."""
+    return {row[2] for row, numbers in zip(book[1], story) if row[0] == "come" and sum(numbers) > 0}
+
+
+def stories_by(case, stories, lots):
+    """Those of all stories whose guilty are among lots."""
+    return [story for story in stories if guilty_by_model(case[0], story) <= set(lots)]
+
+
+def number_by_model(story, sales):
+    return sum(sum(story[t]) for t in sales)
+
+
+def sales_by_model(book):
+    """The sales that did not come back."""
+    back = [row[1] for row in book[1] if row[0] == "back"]
+    return tuple(t for t, row in enumerate(book[1]) if row[0] == "sell" and t not in back)
+
+
+def subsets(things):
+    """All sets of things, ascending."""
+    return sorted(some for k in range(len(things) + 1) for some in itertools.combinations(things, k))
+
+
+def broad_by_model(case):
+    _, _, suspects, few = case
+    return list(itertools.combinations(suspects, min(few, len(suspects))))

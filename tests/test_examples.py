@@ -55,6 +55,25 @@ raises InvalidPaper(word='rest', at=(5, 1))
 >>> from lotback.explainchecker import lets_explain
 >>> lets_explain(PURE, ("ash",), ("barrier", (("in", 4), ("in", 5), ("out", 2), ("out", 4))))
 False
+>>> from lotback.storyobjects import Story
+>>> story = Story(CASE, ((2,), (0,), (1,), (0,), (0,), (1, 0)))
+>>> [story.guilty, story.bad(5), story.left("tank", 6), story.left("tank", 2), story.outside(), list(story)[5]]
+[('ash',), 1, 1, 2, 1, (1, 0)]
+>>> from lotback.numbers import greatest_number, least_number, numbers_of
+>>> [least_number(CASE, (5,), ("ash",)), greatest_number(CASE, (5,), ("ash",)), numbers_of(CASE, (5,)), numbers_of(CASE, (3,))]
+[1, 4, (1, 2, 3, 4), (0, 1, 2)]
+>>> from lotback.numberchecker import cover_worth, floor_worth
+>>> [cover_worth(CASE, (5,), ("cedar",), (("in", 4), ("in", 5), ("out", 4), ("out", 5))), floor_worth(CASE, (5,), ("ash",), (("out", 5),))]
+[8, 1]
+>>> cover_worth(CASE, (5,), ("ash",), (("in", 5),))
+raises InvalidPaper(word='sale', at=5)
+>>> from lotback.numberobjects import Numbers
+>>> numbers = Numbers(CASE, (5,))
+>>> [list(numbers), len(numbers), 0 in numbers, numbers.greatest, list(Numbers(CASE, (5,), lots=("cedar",)))]
+[[1, 2, 3, 4], 4, False, 4, [1]]
+>>> from lotback.guilt import can_be_bad, cleared, guilty_sets, least_guilty, surely_bad
+>>> [guilty_sets(CASE), least_guilty(CASE), surely_bad(CASE), can_be_bad(CASE), cleared(CASE)]
+[(('ash',), ('cedar',)), (('ash',), ('cedar',)), (), ('ash', 'cedar'), ('birch',)]
 """
 
 

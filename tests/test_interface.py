@@ -19,16 +19,35 @@ FUNCTIONS = {
     "explaining": ["story_by(case, lots)", "barrier_by(case, lots)", "story_of(case)", "is_explained(case)",
                    "explain_paper(case, lots)"],
     "explainchecker": ["lets_explain(case, lots, thing)"],
+    "numbers": ["least_number(case, sales, lots)", "greatest_number(case, sales, lots)", "numbers_of(case, sales)",
+                "story_with(case, sales, lots, number)"],
+    "numberpapers": ["number_paper(case, sales, lots, word)"],
+    "numberchecker": ["cover_worth(case, sales, lots, thing)", "floor_worth(case, sales, lots, thing)",
+                      "lets_number(case, sales, lots, thing)"],
+    "guilt": ["guilty_sets(case)", "least_guilty(case)", "surely_bad(case)", "can_be_bad(case)", "cleared(case)"],
 }
 CLASSES = {"errors": ["LotError", "PaperError", "CaseError", "HouseError", "TextError", "InvalidPaper", "NotUsable", "UnknownLot",
                       "NoStory", "InvalidEvent", "NothingToUndo", "InvalidText", "InvalidRow"],
-           "bookobjects": ["Book", "Begun", "Case"]}
-METHODS = {
+           "bookobjects": ["Book", "Begun", "Case"], "storyobjects": ["Story"], "numberobjects": ["Numbers"]}
+# Of each module the methods that are listed for its classes.
+METHODS = {"bookobjects": {
     "Book": ["__init__(self, places, *rows)", "of(cls, book)", "read(cls, text)", "stocks(self)", "walk(self)"],
     "Begun": ["__init__(self, book, t)", "later(self)"],
     "Case": ["__init__(self, places, *rows, findings=(), suspects=(), few=0)", "of(cls, case)", "read(cls, text)",
              "blaming(self, *suspects)"],
+}, "storyobjects": {
+    "Story": ["__init__(self, case, story)", "by(cls, case, lots)", "bad(self, t)", "left(self, place, t)",
+              "outside(self, *, wasted=True)", "__eq__(self, other)", "__len__(self)", "__iter__(self)"],
+}, "numberobjects": {
+    "Numbers": ["__init__(self, case, sales, *, lots=None)", "with_number(self, number)", "__len__(self)", "__contains__(self, x)",
+                "__iter__(self)", "__eq__(self, other)"],
+}}
+PROPERTIES = {
+    "bookobjects": {"Book": ["form", "places", "rows"], "Begun": ["whole"], "Case": ["findings", "suspects", "few", "book"]},
+    "storyobjects": {"Story": ["story", "guilty", "came"]},
+    "numberobjects": {"Numbers": ["least", "greatest"]},
 }
+CLASS_METHODS = {"bookobjects": {"Book": ["of", "read"], "Case": ["of", "read"]}, "storyobjects": {"Story": ["by"]}}
 
 
 class Interface(unittest.TestCase):
@@ -46,18 +65,22 @@ class Interface(unittest.TestCase):
             for told in classes:
                 self.assertEqual(getattr(module, told).__module__, module.__name__)
 
+    def each_listed(self, table):
+        """All pairs (what the class itself has, told), also of what is told with parameters."""
+        for name, classes in table.items():
+            module = importlib.import_module("lotback." + name)
+            for cls, listed in classes.items():
+                for told in listed:
+                    yield vars(getattr(module, cls))[told.split("(")[0]], told
+
     def test_methods(self):
-        module = importlib.import_module("lotback.bookobjects")
-        for name, methods in METHODS.items():
-            listed = vars(getattr(module, name))
-            for told in methods:
-                method = listed[told.split("(")[0]]
-                if isinstance(method, classmethod):
-                    method = method.__func__
-                self.assertEqual(method.__name__ + str(inspect.signature(method)), told)
-        for name, properties in [("Book", ["form", "places", "rows"]), ("Begun", ["whole"]),
-                                 ("Case", ["findings", "suspects", "few", "book"])]:
-            for told in properties:
-                self.assertIsInstance(vars(getattr(module, name))[told], property)
-        self.assertIsInstance(vars(module.Book)["of"], classmethod)
-        self.assertIsInstance(vars(module.Case)["read"], classmethod)
+        for method, told in self.each_listed(METHODS):
+            if isinstance(method, classmethod):
+                method = method.__func__
+            self.assertEqual(method.__name__ + str(inspect.signature(method)), told)
+
+    def test_properties_and_class_methods(self):
+        for thing, told in self.each_listed(PROPERTIES):
+            self.assertIsInstance(thing, property, told)
+        for thing, told in self.each_listed(CLASS_METHODS):
+            self.assertIsInstance(thing, classmethod, told)

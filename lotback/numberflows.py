@@ -1,0 +1,95 @@
+"""Stories by lots that have more or fewer bad units in some sales; the lots need not be few or suspects."""
+from lotback.circulation import Flow
+from lotback.explaining import answer, story_told
+from lotback.points import case_ways, points_of
+from lotback.worths import leads_out_of, number_in
+
+# The end to which these sales lead, instead of to outside: so what comes to it is the number of a story.
+ASKED = "asked"
+
+
+def asked_flow(case, sales, lots):
+    """The Flow of any story by lots, in which these sales lead to ASKED; None if there is no story."""
+    flow = Flow(case_ways(case, lots))
+    if flow.settle() is not None:
+        return None
+    flow.add_end(ASKED)
+    leading = [k for k, way in enumerate(flow.ways) if leads_out_of(way, sales)]
+    for k in leading:
+        flow.lead_away(k, ASKED)
+    return flow
+
+
+def units_asked(case, sales):
+    """How many units these sales have."""
+    return sum([case[0][1][t][2] for t in sales])
+
+
+def greatest_told(case, sales, lots):
+    """The pair of a story with the greatest number and of a cover that shows it; None if there is no story."""
+    flow = asked_flow(case, sales, lots)
+    if flow is None:
+        return None
+    # One more than there are: so it ends only when no more can pass.
+    _, ends = flow.pass_more(None, ASKED, units_asked(case, sales) + 1)
+    cover = [point for point in points_of(case[0]) if point in ends]
+    return story_told(case[0], flow), tuple(cover)
+
+
+def least_told(case, sales, lots):
+    """The pair of a story with the least number and of a floor that shows it; None if there is no story."""
+    flow = asked_flow(case, sales, lots)
+    if flow is None:
+        return None
+    _, ends = flow.pass_more(ASKED, None, units_asked(case, sales) + 1)
+    floor = [point for point in points_of(case[0]) if point not in ends]
+    return story_told(case[0], flow), tuple(floor)
+
+
+def first_by(case, sets):
+    """The first of these sets of lots by which there is a story, or None."""
+    for lots in sets:
+        if answer(case, lots)[0] is not None:
+            return lots
+    return None
+
+
+def greatest_by(case, sales, sets):
+    """The greatest number that a story by any of these sets of lots has; None if there is no story."""
+    told = [greatest_told(case, sales, lots) for lots in sets]
+    numbers = [number_in(pair[0], sales) for pair in told if pair is not None]
+    return max(numbers, default=None)
+
+
+def numbers_by(case, sales, sets):
+    """The ascending tuple of the numbers that stories by any of these sets of lots have."""
+    greatest = greatest_by(case, sales, sets)
+    if greatest is None:
+        return ()
+    # The least one is the same by each set by which there is a story.
+    story, _ = least_told(case, sales, first_by(case, sets))
+    return tuple(range(number_in(story, sales), greatest + 1))
+
+
+def story_reaching(case, sales, lots, number):
+    """A story by lots with this number, or None."""
+    flow = asked_flow(case, sales, lots)
+    if flow is None:
+        return None
+    lacking = number - flow.extra[ASKED]
+    if lacking > 0:
+        over, _ = flow.pass_more(None, ASKED, lacking)
+    else:
+        over, _ = flow.pass_more(ASKED, None, -lacking)
+    if over > 0:
+        return None
+    return story_told(case[0], flow)
+
+
+def story_by_some(case, sales, sets, number):
+    """A story by any of these sets of lots with this number, or None."""
+    for lots in sets:
+        story = story_reaching(case, sales, lots, number)
+        if story is not None:
+            return story
+    return None
