@@ -34,9 +34,8 @@ class Flow:
         self.extra[other] += least
 
     def lead_away(self, k, end):
-        """Let way k lead to another end, with room for one more than before."""
+        """Let way k lead to another end that there is, with room for one more than before."""
         one, other, least, greatest = self.ways[k]
-        self.add_end(end)
         self.touching[other].remove(k)
         self.touching[end].append(k)
         self.ways[k] = (one, end, least, greatest + 1)

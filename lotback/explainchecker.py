@@ -40,3 +40,23 @@ def lets_explain(case, lots, thing):
         return True
     check_barrier(case, lots, told)
     return False
+
+
+def is_story_by(case, lots, story):
+    """Whether any value is a possible story by lots."""
+    try:
+        check_story_by(case, lots, story)
+    except InvalidPaper:
+        return False
+    return True
+
+
+def is_barrier_for(case, lots, points):
+    """Whether any value is a barrier for lots."""
+    if not isinstance(points, tuple):
+        return False
+    try:
+        check_barrier(case, lots, points)
+    except InvalidPaper:
+        return False
+    return True

@@ -4,7 +4,7 @@ from lotback.circulation import Flow
 from lotback.errors import NoStory
 from lotback.explaining import answer, helpful_lots
 from lotback.points import case_ways
-from lotback.subsets import has_within, sets_up_to, suspects_that_came, without
+from lotback.subsets import by_size, has_within, meets, sets_up_to, suspects_that_came, without
 
 
 def forced_way(way, rows):
@@ -30,18 +30,13 @@ def can_be_guilty(case, lots):
     return Flow(forced_ways(case, lots)).settle() is None
 
 
-def by_size(sets):
-    """Sets in the order of their sizes."""
-    return sorted(sets, key=len)
-
-
 def least_guilty(case):
     """The ascending tuple of the least sets by which there is a story."""
     least = []
     helpful = []
     for lots in by_size(sets_up_to(suspects_that_came(case), case[3])):
         # A barrier bars all lots that do not help against it.
-        barred = any([not any([lot in lots for lot in others]) for others in helpful])
+        barred = any([not meets(others, lots) for others in helpful])
         if not barred and not has_within(least, lots):
             story, points = answer(case, lots)
             if story is not None:

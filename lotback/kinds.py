@@ -15,9 +15,14 @@ def row_form(word):
     return ROW_FORMS.get(word, None)
 
 
+def is_whole(thing):
+    """Whether any value is an integer: True and False are none."""
+    return isinstance(thing, int) and not isinstance(thing, bool)
+
+
 def is_number(thing):
     """Whether any value is an integer that is at least 0."""
-    return isinstance(thing, int) and not isinstance(thing, bool) and thing >= 0
+    return is_whole(thing) and thing >= 0
 
 
 def is_index(thing, many):

@@ -46,3 +46,21 @@ def suspects_that_came(case):
 def telling_sets(case):
     """The ascending list of sets of at most few suspects that came: each story is by one of them."""
     return greatest_sets(suspects_that_came(case), case[3])
+
+
+def by_size(sets):
+    """Sets in the order of their sizes."""
+    return sorted(sets, key=len)
+
+
+def meets(some, others):
+    """Whether a set has an element of others."""
+    return any([thing in others for thing in some])
+
+
+def within_another(sets):
+    """The first index of a set that is within another one of these; or None."""
+    for k, some in enumerate(sets):
+        if any([is_within(some, other) for j, other in enumerate(sets) if j != k]):
+            return k
+    return None

@@ -74,6 +74,19 @@ raises InvalidPaper(word='sale', at=5)
 >>> from lotback.guilt import can_be_bad, cleared, guilty_sets, least_guilty, surely_bad
 >>> [guilty_sets(CASE), least_guilty(CASE), surely_bad(CASE), can_be_bad(CASE), cleared(CASE)]
 [(('ash',), ('cedar',)), (('ash',), ('cedar',)), (), ('ash', 'cedar'), ('birch',)]
+>>> from lotback.disputes import least_clashes, least_drops
+>>> TWO = (BOOK, (("bad", 3), ("bad", 4), ("clean", 2)), ("ash", "cedar"), 1)
+>>> [least_clashes(TWO), least_drops(TWO)]
+[((('bad', 3), ('bad', 4)),), ((('bad', 3),), (('bad', 4),))]
+>>> from lotback.shieldchecker import lets_shield
+>>> from lotback.shields import worst_number
+>>> [worst_number(CASE, (3, 5)), worst_number(CASE, (3,))]
+[4, 2]
+>>> SHIELD = (("cover", (("out", 3),)), ("cover", (("out", 3),)))
+>>> lets_shield(CASE, (3,), 2, SHIELD)
+2
+>>> lets_shield(CASE, (3,), 1, SHIELD)
+raises InvalidPaper(word='points', at=0)
 """
 
 

@@ -25,6 +25,13 @@ FUNCTIONS = {
     "numberchecker": ["cover_worth(case, sales, lots, thing)", "floor_worth(case, sales, lots, thing)",
                       "lets_number(case, sales, lots, thing)"],
     "guilt": ["guilty_sets(case)", "least_guilty(case)", "surely_bad(case)", "can_be_bad(case)", "cleared(case)"],
+    "guiltpapers": ["guilt_paper(case)"],
+    "guiltchecker": ["lets_guilt(case, thing)"],
+    "disputes": ["least_clashes(case)", "least_drops(case)"],
+    "disputepapers": ["dispute_paper(case)"],
+    "disputechecker": ["lets_dispute(case, thing)"],
+    "shields": ["worst_number(case, sales)", "shield_of(case, sales, number)", "base_of(case, sales, number)"],
+    "shieldchecker": ["lets_shield(case, sales, number, thing)", "lets_base(case, sales, number, thing)"],
 }
 CLASSES = {"errors": ["LotError", "PaperError", "CaseError", "HouseError", "TextError", "InvalidPaper", "NotUsable", "UnknownLot",
                       "NoStory", "InvalidEvent", "NothingToUndo", "InvalidText", "InvalidRow"],
