@@ -31,3 +31,9 @@ def with_few(case, few):
     """The case with another few."""
     book, findings, suspects, _ = case
     return checked((book, findings, suspects, few))
+
+
+def with_findings_alone(case, findings):
+    """The case with these of its findings alone."""
+    book, _, suspects, few = case
+    return book, findings, suspects, few

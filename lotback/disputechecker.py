@@ -1,5 +1,5 @@
 """The checker of dispute papers."""
-from lotback.disputes import with_findings_alone
+from lotback.cases import with_findings_alone
 from lotback.errors import InvalidPaper
 from lotback.explainchecker import is_barrier_for
 from lotback.kinds import is_finding

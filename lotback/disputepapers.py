@@ -1,5 +1,6 @@
 """Dispute papers: barriers for each least clash, and a story for each least drop."""
-from lotback.disputes import least_clashes, least_drops, with_findings_alone
+from lotback.cases import with_findings_alone
+from lotback.disputes import least_clashes, least_drops
 from lotback.explaining import barrier_by, story_of
 from lotback.subsets import broad_sets, without
 

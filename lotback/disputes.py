@@ -1,12 +1,7 @@
 """Which findings contradict each other, and which have to be dropped."""
+from lotback.cases import with_findings_alone
 from lotback.explaining import story_of
 from lotback.subsets import by_size, has_within, is_within, meets, sets_up_to
-
-
-def with_findings_alone(case, findings):
-    """The case with these findings alone."""
-    book, _, suspects, few = case
-    return book, findings, suspects, few
 
 
 def findings_held(case, story):
@@ -25,7 +20,7 @@ def least_clashes(case):
             if story is None:
                 clashes.append(some)
             else:
-                # What one story explains needs no other one.
+                # No set of what is true by this story is a clash.
                 held.append(findings_held(case, story))
     return tuple(sorted(clashes))
 
@@ -35,7 +30,7 @@ def least_drops(case):
     clashes = least_clashes(case)
     drops = []
     for some in by_size(sets_up_to(case[1], len(case[1]))):
-        # The case is explained without those that are in each clash.
+        # What has a finding of each clash leaves none of them whole.
         if all([meets(clash, some) for clash in clashes]) and not has_within(drops, some):
             drops.append(some)
     return tuple(sorted(drops))

@@ -46,9 +46,7 @@ def floor_worth(case, sales, lots, thing):
 
 def has_number_form(thing):
     """Whether any value is a tuple of one of the two words and two values."""
-    if not isinstance(thing, tuple) or len(thing) != 3 or not isinstance(thing[0], str):
-        return False
-    return thing[0] in ("least", "greatest")
+    return isinstance(thing, tuple) and len(thing) == 3 and thing[0] in ("least", "greatest")
 
 
 def lets_number(case, sales, lots, thing):

@@ -30,8 +30,8 @@ def greatest_told(case, sales, lots):
     flow = asked_flow(case, sales, lots)
     if flow is None:
         return None
-    # One more than there are: so it ends only when no more can pass.
-    _, ends = flow.pass_more(None, ASKED, units_asked(case, sales) + 1)
+    # There cannot be more than all of them: so it ends only when no more can pass.
+    _, ends = flow.pass_more(None, ASKED, units_asked(case, sales))
     cover = [point for point in points_of(case[0]) if point in ends]
     return story_told(case[0], flow), tuple(cover)
 
@@ -41,7 +41,7 @@ def least_told(case, sales, lots):
     flow = asked_flow(case, sales, lots)
     if flow is None:
         return None
-    _, ends = flow.pass_more(ASKED, None, units_asked(case, sales) + 1)
+    _, ends = flow.pass_more(ASKED, None, units_asked(case, sales))
     floor = [point for point in points_of(case[0]) if point not in ends]
     return story_told(case[0], flow), tuple(floor)
 

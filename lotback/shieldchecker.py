@@ -17,7 +17,7 @@ def check_told_pairs(thing, many):
         raise InvalidPaper("many", -1)
 
 
-def covers(case, sales, lots, number, points):
+def is_cover_for(case, sales, lots, number, points):
     """Whether any value is a cover whose worth is at most the number."""
     try:
         worth = worth_of_cover(case, sales, lots, points)
@@ -26,7 +26,7 @@ def covers(case, sales, lots, number, points):
     return is_whole(number) and worth <= number
 
 
-def founds(case, sales, lots, number, points):
+def is_floor_for(case, sales, lots, number, points):
     """Whether any value is a floor whose worth is at least the number."""
     try:
         worth = worth_of_floor(case, sales, lots, points)
@@ -43,9 +43,9 @@ def wrong_in_pair(case, sales, lots, number, pair, word):
     if told == "barrier":
         right = is_barrier_for(case, lots, points)
     elif word == "cover":
-        right = covers(case, sales, lots, number, points)
+        right = is_cover_for(case, sales, lots, number, points)
     else:
-        right = founds(case, sales, lots, number, points)
+        right = is_floor_for(case, sales, lots, number, points)
     return None if right else "points"
 
 

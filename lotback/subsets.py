@@ -14,7 +14,13 @@ def sets_up_to(things, most):
 def greatest_sets(things, most):
     """The ascending list of the sets of as many of these things as possible, at most so many."""
     many = min(most, len(things))
-    return [some for some in sets_up_to(things, many) if len(some) == many]
+    sets = [()]
+    for k, thing in enumerate(things):
+        longer = [(*some, thing) for some in sets if len(some) < many]
+        # Those that the things behind cannot fill up are left out.
+        others = [some for some in sets if len(some) + len(things) - k > many]
+        sets = [*longer, *others]
+    return sorted(sets)
 
 
 def is_within(some, others):

@@ -74,6 +74,12 @@ MANY = (((("tank", "heap"), ("tin", "pipe")), (
     ("sell", "tin", 2), ("waste", "tank", 1), ("sell", "tank", 1))), (), ("ash", "birch", "cedar"), 2)
 
 
+# Ash and birch lie in one tank, birch and cedar in the other one; of both a bad unit was found.
+SIZES = (((("tank", "heap"), ("tin", "heap")), (
+    ("come", "tank", "ash", 2), ("come", "tank", "birch", 2), ("come", "tin", "birch", 2), ("come", "tin", "cedar", 2),
+    ("sell", "tank", 1), ("sell", "tin", 1))), (("bad", 4), ("bad", 5)), ("ash", "birch", "cedar"), 2)
+
+
 def fields_of(error):
     """The fields of an error, by name."""
     return dict(vars(error))
@@ -130,6 +136,9 @@ class Exact(unittest.TestCase):
         refused(1, (3, 3))
         refused(1, (5, 3))
         refused(2, (3, 7, 5))
+        # True is not the sale 1.
+        sold = ((MANY[0][0], MANY[0][1][:2]), *MANY[1:])
+        self.raising(NotUsable("sales", 0), call, sold, *ahead, (True,), *more)
 
     def told(self, wanted, call, *args, **more):
         """The call returns exactly this, and changes no argument."""

@@ -3,7 +3,7 @@ import itertools
 
 from lotback.disputechecker import lets_dispute
 from lotback.disputepapers import dispute_paper
-from lotback.disputes import least_clashes, least_drops
+from lotback.disputes import findings_held, least_clashes, least_drops
 from lotback.errors import InvalidPaper
 from lotback.explaining import barrier_by, is_explained, story_of
 from lotback.points import is_barrier
@@ -108,6 +108,11 @@ class Disputes(Exact):
         self.told((THREE[1],), least_drops, (*THREE[:3], 0))
         self.told((), least_clashes, (*THREE[:3], 3))
         self.told(((),), least_drops, (*THREE[:3], 3))
+
+    def test_what_a_story_holds(self):
+        story = ((2,), (0,), (1,), (0,), (0,), (1, 0))
+        self.exactly(findings_held(alone(CASE, tuple(("bad", t) for t in range(6))), story), (("bad", 0), ("bad", 2), ("bad", 5)))
+        self.exactly(findings_held(alone(CASE, tuple(("clean", t) for t in range(6))), story), (("clean", 1), ("clean", 3), ("clean", 4)))
 
     def test_the_example(self):
         for case, clashes, drops in [(TWO, (CLASH,), (ONE, OTHER)), (CASE, (), ((),)), (PURE, (), ((),)), ((BOOK, (), (), 0), (), ((),))]:
@@ -240,6 +245,14 @@ class Checker(Exact):
         self.refused("missing", CLASH, (((TWO[1], self.walls),), drops))
         self.refused("missing", ONE, (clashes, ((CLASH, story_of(without(TWO, CLASH))),)))
         self.refused("missing", (("bad", 3),), ((), ((THREE[1], story_of(alone(THREE, ()))),)), THREE)
+
+    def test_the_last_set_of_findings_is_missing(self):
+        """All three together, behind all sets of two; and two, with one suspect alone."""
+        drops = dispute_paper(THREE)[1]
+        self.refused("missing", THREE[1], ((), drops), THREE)
+        case = (((("tank", "heap"),), (("come", "tank", "ash", 2), ("sell", "tank", 1))), (("bad", 1), ("clean", 0)), ("ash",), 1)
+        self.refused("missing", case[1], ((), dispute_paper(case)[1]), case)
+        self.told(((case[1],), ((("bad", 1),), (("clean", 0),))), lets_dispute, case, dispute_paper(case))
 
     def test_few_0(self):
         case = (*CASE[:3], 0)

@@ -3,7 +3,7 @@ from lotback.bookparts import lots_of
 from lotback.errors import NoStory
 from lotback.explaining import is_explained, story_by
 from lotback.guilt import can_be_bad, cleared, guilty_sets, least_guilty, surely_bad
-from tests.common import BOOK, CASE, PURE, Exact
+from tests.common import BOOK, CASE, PURE, SIZES, Exact
 from tests.model import LOTS, guilty_by_model, lot_sets, model_stories, random_case
 
 CALLS = (guilty_sets, least_guilty, surely_bad, can_be_bad, cleared)
@@ -69,6 +69,12 @@ class Guilt(Exact):
         rows = (("come", "tank", "ash", 1), ("come", "tank", "ash", 1), ("sell", "tank", 1))
         case = (((("tank", "heap"),), rows), (("bad", 2),), ("ash",), 1)
         self.exactly((guilty_sets(case), surely_bad(case)), ((("ash",),), ("ash",)))
+
+    def test_least_sets_of_several_sizes(self):
+        """Birch alone, or ash and cedar together, which come first."""
+        self.compared(SIZES)
+        self.exactly(least_guilty(SIZES), (("ash", "cedar"), ("birch",)))
+        self.exactly(guilty_sets(SIZES), (("ash", "birch"), ("ash", "cedar"), ("birch",), ("birch", "cedar")))
 
     def test_suspects_that_never_came(self):
         case = (BOOK, (("bad", 5),), ("ash", "dogwood", "elm"), 3)

@@ -6,7 +6,7 @@ from lotback.explaining import barrier_by, story_by
 from lotback.guilt import least_guilty
 from lotback.guiltchecker import lets_guilt
 from lotback.guiltpapers import guilt_paper
-from tests.common import BOOK, CASE, ODD, PURE, Exact, with_changes
+from tests.common import BOOK, CASE, ODD, PURE, SIZES, Exact, with_changes
 from tests.model import LOTS, guilty_by_model, lot_sets, model_stories, random_case
 
 ASH = ((1,), (0,), (1,), (0,), (0,), (1, 0))
@@ -58,6 +58,11 @@ class Papers(Exact):
         case = (BOOK, (("bad", 3), ("clean", 0), ("clean", 1)), ("ash", "birch", "elm"), 2)
         paper = self.confirmed(case)
         self.exactly((paper[0], [lots for lots, _ in paper[1]]), ((), [("ash", "birch"), ("ash", "elm"), ("birch", "elm")]))
+
+    def test_least_sets_of_several_sizes(self):
+        paper = self.confirmed(SIZES)
+        self.exactly([lots for lots, _ in paper[0]], [("ash", "cedar"), ("birch",)])
+        self.exactly([lots for lots, _ in paper[1]], [("ash",), ("cedar",)])
 
     def test_accepted(self):
         self.told((("ash",), ("cedar",)), lets_guilt, CASE, PAPER)
