@@ -37,3 +37,9 @@ def with_findings_alone(case, findings):
     """The case with these of its findings alone."""
     book, _, suspects, few = case
     return book, findings, suspects, few
+
+
+def with_answers(case, answers):
+    """The case with more findings, about rows about which it has none."""
+    book, findings, suspects, few = case
+    return book, set_of_findings((*findings, *answers)), suspects, few

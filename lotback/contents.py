@@ -79,3 +79,9 @@ def contents_behind(book, t):
     for k in range(t):
         contents = contents_after(contents, rows, k)
     return contents
+
+
+def units_there(book, places):
+    """The tuple of how many units lie in each of these places behind all rows."""
+    contents = contents_behind(book, len(book[1]))
+    return tuple([amount(contents[place]) for place in places])

@@ -1,6 +1,6 @@
 """Stories by lots that have more or fewer bad units in some sales; the lots need not be few or suspects."""
 from lotback.circulation import Flow
-from lotback.explaining import answer, story_told
+from lotback.explaining import story_told
 from lotback.points import case_ways, points_of
 from lotback.worths import leads_out_of, number_in
 
@@ -46,29 +46,48 @@ def least_told(case, sales, lots):
     return story_told(case[0], flow), tuple(floor)
 
 
-def first_by(case, sets):
-    """The first of these sets of lots by which there is a story, or None."""
+def least_story(case, sales, sets):
+    """A story with the least number that one by any of these sets of lots has; None if there is no story."""
     for lots in sets:
-        if answer(case, lots)[0] is not None:
-            return lots
+        told = least_told(case, sales, lots)
+        if told is not None:
+            # The least number is the same by each set by which there is a story.
+            return told[0]
     return None
 
 
-def greatest_by(case, sales, sets):
-    """The greatest number that a story by any of these sets of lots has; None if there is no story."""
+def worst_story(case, sales, sets):
+    """A story with the greatest number that one by any of these sets of lots has; None if there is no story."""
     told = [greatest_told(case, sales, lots) for lots in sets]
-    numbers = [number_in(pair[0], sales) for pair in told if pair is not None]
-    return max(numbers, default=None)
+    numbered = [(number_in(pair[0], sales), pair[0]) for pair in told if pair is not None]
+    if len(numbered) == 0:
+        return None
+    return max(numbered)[1]
+
+
+def story_above(case, sales, sets, left):
+    """A story by any of these sets of lots with a number greater than left, or None."""
+    for lots in sets:
+        told = greatest_told(case, sales, lots)
+        if told is not None and number_in(told[0], sales) > left:
+            return told[0]
+    return None
+
+
+def bounds_by(case, sales, sets):
+    """The pair of the least and the greatest number of stories by any of these sets; None if there is no story."""
+    least = least_story(case, sales, sets)
+    if least is None:
+        return None
+    return number_in(least, sales), number_in(worst_story(case, sales, sets), sales)
 
 
 def numbers_by(case, sales, sets):
     """The ascending tuple of the numbers that stories by any of these sets of lots have."""
-    greatest = greatest_by(case, sales, sets)
-    if greatest is None:
+    bounds = bounds_by(case, sales, sets)
+    if bounds is None:
         return ()
-    # The least one is the same by each set by which there is a story.
-    story, _ = least_told(case, sales, first_by(case, sets))
-    return tuple(range(number_in(story, sales), greatest + 1))
+    return tuple(range(bounds[0], bounds[1] + 1))
 
 
 def story_reaching(case, sales, lots, number):

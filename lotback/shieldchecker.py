@@ -69,3 +69,21 @@ def lets_shield(case, sales, number, thing):
 def lets_base(case, sales, number, thing):
     """How many pairs are no barriers, if any value is a base of these sales for a number."""
     return lets_pairs(case, sales, number, thing, "floor")
+
+
+def is_shield(case, sales, number, thing):
+    """Whether any value is a shield of these sales for a number."""
+    try:
+        lets_shield(case, sales, number, thing)
+    except InvalidPaper:
+        return False
+    return True
+
+
+def is_base(case, sales, number, thing):
+    """Whether any value is a base of these sales for a number."""
+    try:
+        lets_base(case, sales, number, thing)
+    except InvalidPaper:
+        return False
+    return True

@@ -2,7 +2,7 @@
 from lotback.errors import NoStory
 from lotback.explaining import answer
 from lotback.kinds import is_whole
-from lotback.numberflows import greatest_by, greatest_told, least_told
+from lotback.numberflows import greatest_told, least_told, worst_story
 from lotback.subsets import broad_sets, telling_sets
 from lotback.usable import check_sales
 from lotback.worths import number_in
@@ -11,10 +11,10 @@ from lotback.worths import number_in
 def worst_number(case, sales):
     """The greatest number of bad units in these sales that a story has."""
     check_sales(case, sales)
-    worst = greatest_by(case, sales, telling_sets(case))
-    if worst is None:
+    story = worst_story(case, sales, telling_sets(case))
+    if story is None:
         raise NoStory(case[2])
-    return worst
+    return number_in(story, sales)
 
 
 def shield_pair(case, sales, lots, number):

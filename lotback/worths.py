@@ -7,6 +7,11 @@ def number_in(story, sales):
     return sum([sum(story[t]) for t in sales])
 
 
+def bad_sales(story, sales):
+    """Those of these sales in which a story has a bad unit."""
+    return tuple([t for t in sales if sum(story[t]) > 0])
+
+
 def leads_out_of(way, sales):
     """Whether a way leads from one of these sales to outside."""
     one, other, _, _ = way

@@ -74,6 +74,10 @@ MANY = (((("tank", "heap"), ("tin", "pipe")), (
     ("sell", "tin", 2), ("waste", "tank", 1), ("sell", "tank", 1))), (), ("ash", "birch", "cedar"), 2)
 
 
+# The same without a story: nobody is suspected, and a bad unit was found in what is no sale outside.
+BARRED = (MANY[0], (("bad", 6),), (), 2)
+
+
 # Ash and birch lie in one tank, birch and cedar in the other one; of both a bad unit was found.
 SIZES = (((("tank", "heap"), ("tin", "heap")), (
     ("come", "tank", "ash", 2), ("come", "tank", "birch", 2), ("come", "tin", "birch", 2), ("come", "tin", "cedar", 2),
@@ -139,6 +143,60 @@ class Exact(unittest.TestCase):
         # True is not the sale 1.
         sold = ((MANY[0][0], MANY[0][1][:2]), *MANY[1:])
         self.raising(NotUsable("sales", 0), call, sold, *ahead, (True,), *more)
+
+    def wrong_left(self, call, *more):
+        """The call, of case, left and more, refuses all that is no number."""
+        for odd in [*ODD, (), (3,), "3", MANY, MANY[0]]:
+            self.raising(NotUsable("left", -1), call, MANY, odd, *more)
+            self.raising(NotUsable("left", -1), call, BARRED, odd, *more)
+
+    def wrong_parcels(self, call, *more):
+        """The call, of case, sales, parcels and more, refuses all that is no set of rows without a finding."""
+        def refused(at, parcels, case=MANY):
+            self.raising(NotUsable("parcels", at), call, case, (3,), parcels, *more)
+        for parcels in [None, [], [3], "3", "", 3, True, {}]:
+            refused(-1, parcels)
+        for odd in [*ODD, 8, 9, 10 ** 60, "3", (3,), [3], MANY]:
+            refused(0, (odd,))
+            refused(1, (3, odd))
+            refused(0, (odd, None))
+            refused(2, (3, 5, odd, 7))
+        refused(1, (3, 3))
+        refused(1, (5, 3))
+        refused(2, (0, 7, 2))
+        found = (MANY[0], (("bad", 5), ("clean", 1)), *MANY[2:])
+        refused(0, (5,), found)
+        refused(1, (0, 1, 5), found)
+        refused(0, (True,), found)
+        # Sales ahead of parcels.
+        for sales, at in [(None, -1), ((3, 3), 1)]:
+            self.raising(NotUsable("sales", at), call, MANY, sales, None, *more)
+
+    def wrong_places(self, call, *more):
+        """The call, of case, places and more, refuses all that is no nonempty set of places."""
+        def refused(at, places):
+            self.raising(NotUsable("places", at), call, MANY, places, *more)
+            self.raising(NotUsable("places", at), call, BARRED, places, *more)
+        for places in [None, [], ["tank"], "tank", "", 3, True, {}, ()]:
+            refused(-1, places)
+        for odd in [*ODD, "line", "ash", ("tank",), ("tank", "heap"), ["tank"], 0, MANY]:
+            refused(0, (odd,))
+            refused(1, ("tank", odd))
+            refused(0, (odd, None))
+        refused(1, ("tank", "tank"))
+        refused(1, ("tin", "tank"))
+        refused(2, ("tank", "tin", "tank"))
+
+    def wrong_units(self, call, *more):
+        """The call, of case, places, units and more, refuses all that is no number of units that are there."""
+        def refused(places, units):
+            self.raising(NotUsable("units", -1), call, MANY, places, units, *more)
+            self.raising(NotUsable("units", -1), call, BARRED, places, units, *more)
+        for odd in [*ODD, 0, 3, 10 ** 60, (), "1", (1,), MANY]:
+            refused(("tank", "tin"), odd)
+        refused(("tank",), 2)
+        refused(("tin",), 2)
+        self.raising(NotUsable("places", 0), call, MANY, (None,), None, *more)
 
     def told(self, wanted, call, *args, **more):
         """The call returns exactly this, and changes no argument."""

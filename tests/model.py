@@ -203,3 +203,38 @@ def subsets(things):
 def broad_by_model(case):
     _, _, suspects, few = case
     return list(itertools.combinations(suspects, min(few, len(suspects))))
+
+
+def bad_in(story, sales):
+    """Whether a story has a bad unit in some of these rows."""
+    return any(sum(story[t]) > 0 for t in sales)
+
+
+def settled_by_model(stories, sales):
+    """As what these stories are settled; "both" if there is none."""
+    told = {bad_in(story, sales) for story in stories}
+    return {(): "both", (True,): "bad", (False,): "clean"}.get(tuple(told))
+
+
+def answered(stories, word, t):
+    """Those stories by which a look at a parcel is answered so."""
+    return [story for story in stories if bad_in(story, (t,)) == (word == "bad")]
+
+
+def fewest_by_model(stories, sales, parcels):
+    """The fewest looks, by going through all orders of looks; None if there are none."""
+    if settled_by_model(stories, sales) is not None:
+        return 0
+    fewest = None
+    for t in parcels:
+        others = tuple(other for other in parcels if other != t)
+        behind = [fewest_by_model(answered(stories, word, t), sales, others) for word in ("bad", "clean")]
+        if None not in behind and (fewest is None or max(behind) + 1 < fewest):
+            fewest = max(behind) + 1
+    return fewest
+
+
+def free_rows(case):
+    """The rows about which there is no finding."""
+    found = [t for _, t in case[1]]
+    return [t for t in range(len(case[0][1])) if t not in found]

@@ -87,6 +87,27 @@ raises InvalidPaper(word='sale', at=5)
 2
 >>> lets_shield(CASE, (3,), 1, SHIELD)
 raises InvalidPaper(word='points', at=0)
+>>> from lotback.backchecker import lets_back
+>>> from lotback.backs import back_sets, fewest_back
+>>> [back_sets(CASE, 0), back_sets(CASE, 2), fewest_back(CASE, 2), back_sets(CASE, 4)]
+[((3, 5),), ((5,),), 6, ((),)]
+>>> BAD = ((4,), (0,), (4,), (0,), (0,), (4, 0))
+>>> lets_back(CASE, 2, ((5,), SHIELD, (BAD, ((5, ()),))))
+6
+>>> from lotback.lookchecker import lets_looks
+>>> from lotback.looks import fewest_looks, settled_as
+>>> [settled_as(CASE, (3,)), settled_as(CASE, (5,)), fewest_looks(CASE, (3,), (2,)), fewest_looks(CASE, (3,), (2, 3))]
+[None, 'bad', None, 1]
+>>> ONE, TWO = ((1,), (0,), (1,), (0,), (0,), (1, 0)), ((4,), (0,), (2,), (2,), (0,), (2, 0))
+>>> lets_looks(CASE, (3,), (2,), (None, (ONE, TWO, ((2, "bad", (ONE, TWO, ())),)))) is None
+True
+>>> from lotback.inquiries import Inquiry
+>>> inquiry = Inquiry(CASE, (3,), (2, 3))
+>>> [inquiry.next_look(), inquiry.needed(), inquiry.tell("clean"), inquiry.outcome(), list(inquiry), inquiry.back(), inquiry.outcome()]
+[3, 1, None, 'clean', [('clean', 3)], True, None]
+>>> from lotback.orders import fills, safest
+>>> [list(fills(CASE, ("line", "tank"), 2)), safest(CASE, ("line", "tank"), 2), safest(CASE, ("line",), 2)]
+[[(1, 1), (2, 0)], (1, ((1, 1),)), (2, ((2,),))]
 """
 
 

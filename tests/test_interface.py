@@ -32,10 +32,20 @@ FUNCTIONS = {
     "disputechecker": ["lets_dispute(case, thing)"],
     "shields": ["worst_number(case, sales)", "shield_of(case, sales, number)", "base_of(case, sales, number)"],
     "shieldchecker": ["lets_shield(case, sales, number, thing)", "lets_base(case, sales, number, thing)"],
+    "backs": ["back_sets(case, left)", "fewest_back(case, left)", "back_paper(case, left)"],
+    "backchecker": ["lets_back(case, left, thing)"],
+    "looks": ["settled_as(case, sales)", "fewest_looks(case, sales, parcels)", "look_plan(case, sales, parcels)",
+              "looks_paper(case, sales, parcels)"],
+    "lookchecker": ["lets_look_plan(case, sales, parcels, thing)", "lets_limit(case, sales, parcels, thing)",
+                    "lets_looks(case, sales, parcels, thing)"],
+    "orders": ["fills(case, places, units)", "filled(case, places, fill)", "safest(case, places, units)",
+               "order_paper(case, places, units)"],
+    "orderchecker": ["lets_order(case, places, units, thing)"],
 }
 CLASSES = {"errors": ["LotError", "PaperError", "CaseError", "HouseError", "TextError", "InvalidPaper", "NotUsable", "UnknownLot",
                       "NoStory", "InvalidEvent", "NothingToUndo", "InvalidText", "InvalidRow"],
-           "bookobjects": ["Book", "Begun", "Case"], "storyobjects": ["Story"], "numberobjects": ["Numbers"]}
+           "bookobjects": ["Book", "Begun", "Case"], "storyobjects": ["Story"], "numberobjects": ["Numbers"],
+           "inquiries": ["Inquiry"]}
 # Of each module the methods that are listed for its classes.
 METHODS = {"bookobjects": {
     "Book": ["__init__(self, places, *rows)", "of(cls, book)", "read(cls, text)", "stocks(self)", "walk(self)"],
@@ -48,11 +58,15 @@ METHODS = {"bookobjects": {
 }, "numberobjects": {
     "Numbers": ["__init__(self, case, sales, *, lots=None)", "with_number(self, number)", "__len__(self)", "__contains__(self, x)",
                 "__iter__(self)", "__eq__(self, other)"],
+}, "inquiries": {
+    "Inquiry": ["__init__(self, case, sales, parcels)", "next_look(self)", "outcome(self)", "needed(self)", "tell(self, word)",
+                "back(self)", "__len__(self)", "__iter__(self)"],
 }}
 PROPERTIES = {
     "bookobjects": {"Book": ["form", "places", "rows"], "Begun": ["whole"], "Case": ["findings", "suspects", "few", "book"]},
     "storyobjects": {"Story": ["story", "guilty", "came"]},
     "numberobjects": {"Numbers": ["least", "greatest"]},
+    "inquiries": {"Inquiry": ["present"]},
 }
 CLASS_METHODS = {"bookobjects": {"Book": ["of", "read"], "Case": ["of", "read"]}, "storyobjects": {"Story": ["by"]}}
 
