@@ -49,7 +49,7 @@ def fewest_back(case, left):
     return enough_sets(case, left)[0]
 
 
-def telling_story(case, left, others):
+def story_in_few_sales(case, left, others):
     """A story with more than left bad units in these sales, if there is one, in few of them."""
     sets = telling_sets(case)
     # One more than left, or more if none has so few: so the fewest sales have to be gone along.
@@ -64,7 +64,7 @@ def back_tree(case, left, others, lacking, trees):
     if lacking <= 0:
         return ()
     if others not in trees:
-        story = telling_story(case, left, others)
+        story = story_in_few_sales(case, left, others)
         branches = []
         for t in bad_sales(story, others):
             units = units_asked(case, (t,))

@@ -1,6 +1,6 @@
 """Readers of the written forms."""
 from lotback.errors import InvalidText
-from lotback.kinds import is_kind, is_name, row_form
+from lotback.kinds import is_finding_word, is_kind, is_name, row_form
 
 # What may follow a line in the text of a case; "" stands for its beginning.
 FOLLOWERS = {
@@ -29,14 +29,18 @@ def can_stand(kind, word):
         return is_name(word)
     if kind == "kind":
         return is_kind(word)
+    if kind == "word":
+        return is_finding_word(word)
+    if kind == "manner":
+        return word in ("plain", "careful")
     return is_number_word(word) and (kind == "number" or word != "0")
 
 
 def worth_of(kind, word):
     """What a word of this kind writes."""
-    if kind in ("name", "kind"):
-        return word
-    return int(word)
+    if kind in ("number", "units"):
+        return int(word)
+    return word
 
 
 def words_read(words, form, line, field):
@@ -62,7 +66,7 @@ def row_read(text, *, line=0, field=0):
 def finding_read(text, *, line=0, field=0):
     """The finding that any string writes."""
     words = text.split(" ")
-    if words[0] not in ("bad", "clean"):
+    if not is_finding_word(words[0]):
         raise InvalidText(line, field)
     return words_read(words, ("number",), line, field)
 
@@ -81,7 +85,7 @@ def part_of_text(text):
     word = text.split(" ")[0]
     if word in ("place", "suspects", "few"):
         return word
-    if word in ("bad", "clean"):
+    if is_finding_word(word):
         return "finding"
     if row_form(word) is not None:
         return "row"

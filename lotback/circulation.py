@@ -13,6 +13,8 @@ class Flow:
         self.passing = []
         self.extra = {}
         self.touching = {}
+        # Outside is an end even of a book without rows, which has no ways.
+        self.add_end(None)
         for way in ways:
             self.add_way(way)
 

@@ -49,30 +49,44 @@ def is_place(thing):
     return is_name(thing[0]) and is_kind(thing[1])
 
 
+def is_finding_word(thing):
+    """Whether any value is the word of a finding."""
+    return isinstance(thing, str) and thing in ("bad", "clean")
+
+
 def fits(kind, thing):
-    """Whether any value can stand in a row where this kind is asked."""
+    """Whether any value can stand in a row or an event where this kind is asked."""
     if kind == "name":
         return is_name(thing)
+    if kind == "word":
+        return is_finding_word(thing)
     if kind == "units":
         return is_number(thing) and thing > 0
     return is_number(thing)
 
 
-def is_row(thing):
-    """Whether any value is a row by form."""
-    if not isinstance(thing, tuple) or len(thing) == 0 or not isinstance(thing[0], str):
-        return False
-    form = row_form(thing[0])
+def begins_with_word(thing):
+    """Whether any value is a tuple that begins with a string."""
+    return isinstance(thing, tuple) and len(thing) > 0 and isinstance(thing[0], str)
+
+
+def matches(form, thing):
+    """Whether a tuple has behind its first element what this form asks; None is no form."""
     if form is None or len(thing) != len(form) + 1:
         return False
     return all([fits(kind, part) for kind, part in zip(form, thing[1:])])
 
 
+def is_row(thing):
+    """Whether any value is a row by form."""
+    return begins_with_word(thing) and matches(row_form(thing[0]), thing)
+
+
 def is_finding(thing):
     """Whether any value is a finding by form."""
-    if not isinstance(thing, tuple) or len(thing) != 2 or not isinstance(thing[0], str):
+    if not isinstance(thing, tuple) or len(thing) != 2:
         return False
-    return thing[0] in ("bad", "clean") and is_number(thing[1])
+    return is_finding_word(thing[0]) and is_number(thing[1])
 
 
 def are_places(thing):

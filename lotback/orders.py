@@ -33,8 +33,8 @@ def case_filled(case, places, fill):
     """The pair of the case of a fill, and of its sales."""
     (all_places, rows), findings, suspects, few = case
     sold = [("sell", place, n) for place, n in zip(places, fill) if n > 0]
-    sales = range(len(rows), len(rows) + len(sold))
-    return ((all_places, (*rows, *sold)), findings, suspects, few), tuple(sales)
+    sales = tuple(range(len(rows), len(rows) + len(sold)))
+    return ((all_places, (*rows, *sold)), findings, suspects, few), sales
 
 
 def filled(case, places, fill):

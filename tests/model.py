@@ -238,3 +238,80 @@ def free_rows(case):
     """The rows about which there is no finding."""
     found = [t for _, t in case[1]]
     return [t for t in range(len(case[0][1])) if t not in found]
+
+
+def row_is_possible(book, row):
+    """Whether a row by form makes a book with this one behind it."""
+    places, rows = book
+    names = [place for place, _ in places]
+    units = units_of_book(book)
+    if row[0] == "come":
+        return row[1] in names
+    if row[0] == "back":
+        return row[1] in sales_by_model(book) and row[2] in names
+    if row[0] == "move" and (row[1] == row[2] or row[2] not in names):
+        return False
+    return row[1] in names and row[-1] <= len(units.there[row[1]])
+
+
+def after_by_model(case, event):
+    """The case behind an event that is possible."""
+    (places, rows), findings, suspects, few = case
+    if event[0] == "find":
+        findings = tuple(sorted((*findings, event[1:])))
+    elif event[0] == "suspect":
+        suspects = tuple(sorted((*suspects, event[1])))
+    elif event[0] == "clear":
+        suspects = tuple(lot for lot in suspects if lot != event[1])
+    elif event[0] == "few":
+        few = event[1]
+    else:
+        rows = (*rows, event)
+    return (places, rows), findings, suspects, few
+
+
+ROW_WORDS = ("come", "move", "sell", "waste", "back")
+
+
+def reason_by_model(case, careful, many, event):
+    """Why an event by kind is not possible behind so many events, by all stories; or None."""
+    book, findings, suspects, few = case
+    after = after_by_model(case, event)
+    if many >= 40:
+        return "full"
+    if event[0] in ROW_WORDS:
+        if len(book[1]) >= 16:
+            return "long"
+        if not row_is_possible(book, event):
+            return "row"
+        sold = event[0] == "sell" and careful
+        return "bad" if sold and any(sum(story[-1]) > 0 for story in model_stories(after)) else None
+    if event[0] == "find" and event[2] >= len(book[1]):
+        return "row"
+    if event[0] == "find" and event[2] in [t for _, t in findings] or event[0] == "suspect" and event[1] in suspects:
+        return "there"
+    if event[0] == "clear" and event[1] not in suspects:
+        return "missing"
+    if event[0] == "few" and event[1] == few:
+        return "same"
+    return None if model_stories(after) else "story"
+
+
+def sure_and_possible(case):
+    """The lots that are surely bad, and those that can be bad, by all stories."""
+    guilty = [guilty_by_model(case[0], story) for story in model_stories(case)]
+    return tuple(sorted(set.intersection(*guilty))), tuple(sorted(set.union(*guilty)))
+
+
+def random_event(dice, case, most=2):
+    """Any event by kind, mostly a possible one."""
+    (places, rows), _, suspects, _ = case
+    names = [place for place, _ in places]
+    word = dice.choice(["come", "come", "move", "sell", "sell", "waste", "back", "find", "find", "find", "suspect", "suspect", "clear", "few"])
+    place = dice.choice(names if dice.random() < 0.95 else ["shed"])
+    n = dice.randint(1, most)
+    if word in ("suspect", "clear"):
+        return (word, dice.choice(suspects if suspects and word == "clear" and dice.random() < 0.8 else LOTS))
+    return {"come": (word, place, dice.choice(LOTS), n), "move": (word, place, dice.choice(names), n), "sell": (word, place, n), "waste": (word, place, n),
+            "back": (word, dice.randint(0, len(rows)), place), "find": (word, dice.choice(["bad", "bad", "clean"]), dice.randint(0, len(rows))),
+            "few": (word, dice.randint(0, 3))}[word]

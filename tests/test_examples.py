@@ -108,6 +108,22 @@ True
 >>> from lotback.orders import fills, safest
 >>> [list(fills(CASE, ("line", "tank"), 2)), safest(CASE, ("line", "tank"), 2), safest(CASE, ("line",), 2)]
 [[(1, 1), (2, 0)], (1, ((1, 1),)), (2, ((2,),))]
+>>> from lotback.houses import House
+>>> house = House((('line', 'pipe'), ('tank', 'heap')))
+>>> [house.do_all(*ROWS[:4]), house.suspect('ash'), house.suspect('cedar'), house.set_few(1), house.risk('line', 5)]
+[4, ((), ()), ((), ()), ((), ('ash',)), 4]
+>>> [house.do_all(*ROWS[4:]), house.find('bad', 5), house.sure(), house.possible(), house.outside(), house.barred(('clear', 'cedar'))]
+[2, ((), ('ash', 'cedar')), (), ('ash', 'cedar'), (3, 5), None]
+>>> [house.clear('cedar'), house.table()[3:]]
+[(('ash',), ('ash',)), [' 3 sell    2 -     0..2', ' 4 come    3 -     -', ' 5 sell    6 bad   1..4']]
+>>> from lotback.houselines import event_line, house_line
+>>> from lotback.houseread import read_event
+>>> [event_line(('find', 'bad', 5)), house_line((('tank', 'heap'),), careful=True), read_event('back 3 tank')]
+['find bad 5', 'house careful tank heap', ('back', 3, 'tank')]
+>>> from lotback.desk import Desk
+>>> desk = Desk()
+>>> [desk.say('house plain tank heap'), desk.say('come tank ash 4'), desk.say('suspect ash'), desk.say('few 1'), desk.say('risk tank 3')]
+['ok', '0', '- -', '- ash', '3']
 """
 
 

@@ -41,11 +41,15 @@ FUNCTIONS = {
     "orders": ["fills(case, places, units)", "filled(case, places, fill)", "safest(case, places, units)",
                "order_paper(case, places, units)"],
     "orderchecker": ["lets_order(case, places, units, thing)"],
+    "houseevents": ["is_event(thing)"],
+    "replaying": ["is_log(thing)", "replayed(log)"],
+    "houselines": ["event_line(event)", "house_line(places, *, careful=False)", "log_lines(log)"],
+    "houseread": ["read_event(text, *, line=0)", "read_log(lines)"],
 }
 CLASSES = {"errors": ["LotError", "PaperError", "CaseError", "HouseError", "TextError", "InvalidPaper", "NotUsable", "UnknownLot",
                       "NoStory", "InvalidEvent", "NothingToUndo", "InvalidText", "InvalidRow"],
            "bookobjects": ["Book", "Begun", "Case"], "storyobjects": ["Story"], "numberobjects": ["Numbers"],
-           "inquiries": ["Inquiry"]}
+           "inquiries": ["Inquiry"], "houses": ["House"], "desk": ["Desk"]}
 # Of each module the methods that are listed for its classes.
 METHODS = {"bookobjects": {
     "Book": ["__init__(self, places, *rows)", "of(cls, book)", "read(cls, text)", "stocks(self)", "walk(self)"],
@@ -61,14 +65,27 @@ METHODS = {"bookobjects": {
 }, "inquiries": {
     "Inquiry": ["__init__(self, case, sales, parcels)", "next_look(self)", "outcome(self)", "needed(self)", "tell(self, word)",
                 "back(self)", "__len__(self)", "__iter__(self)"],
+}, "houses": {
+    "House": ["__init__(self, places, *, careful=False)", "read(cls, text)", "__iter__(self)", "__len__(self)", "__contains__(self, x)",
+              "__eq__(self, other)", "__str__(self)", "__call__(self, event)", "go(self, event)", "come(self, place, lot, n)",
+              "move(self, one, other, n)", "sell(self, place, n)", "waste(self, place, n)", "back(self, s, place)", "find(self, word, t)",
+              "suspect(self, lot)", "clear(self, lot)", "set_few(self, n)", "barred(self, event)", "sure(self)", "possible(self)",
+              "cleared(self)", "outside(self)", "units(self, place)", "risk(self, place, n)", "any_story(self)", "numbers(self, sales)",
+              "back_sets(self, left)", "fewest_back(self, left)", "fewest_looks(self, sales, parcels)", "fills(self, places, n)",
+              "safest(self, places, n)", "do_all(self, *events, keep=False)", "tried(self, *events)", "undo(self)", "log(self)",
+              "counts(self)", "table(self)"],
+}, "desk": {
+    "Desk": ["__init__(self)", "say(self, row)", "counts(self)"],
 }}
 PROPERTIES = {
     "bookobjects": {"Book": ["form", "places", "rows"], "Begun": ["whole"], "Case": ["findings", "suspects", "few", "book"]},
     "storyobjects": {"Story": ["story", "guilty", "came"]},
     "numberobjects": {"Numbers": ["least", "greatest"]},
     "inquiries": {"Inquiry": ["present"]},
+    "houses": {"House": ["case", "careful"]},
 }
-CLASS_METHODS = {"bookobjects": {"Book": ["of", "read"], "Case": ["of", "read"]}, "storyobjects": {"Story": ["by"]}}
+CLASS_METHODS = {"bookobjects": {"Book": ["of", "read"], "Case": ["of", "read"]}, "storyobjects": {"Story": ["by"]},
+                 "houses": {"House": ["read"]}}
 
 
 class Interface(unittest.TestCase):

@@ -13,7 +13,7 @@ BUILTINS = set("""len range enumerate zip min max sum abs sorted reversed int st
 METHODS = set("""append clear copy count endswith extend find get index insert isalnum isalpha isdigit islower isspace
  isupper items join keys ljust lower lstrip partition pop remove replace reverse rfind rjust rpartition rsplit rstrip
  setdefault split splitlines startswith strip update upper values zfill bit_length add discard""".split())
-DUNDERS = set("""__init__ __eq__ __repr__ __str__ __len__ __iter__ __getitem__ __contains__ __add__""".split())
+DUNDERS = set("""__init__ __eq__ __repr__ __str__ __len__ __iter__ __getitem__ __contains__ __add__ __call__""".split())
 BARRED = (ast.Global, ast.AsyncFunctionDef, ast.Await, ast.GeneratorExp, ast.Match, ast.With, ast.Div, ast.Import,
           ast.Lambda, ast.AnnAssign)
 NOT_NAMES = set("register mro elements open input law exit help id type vars dir sys os compile license".split())
@@ -34,6 +34,17 @@ def names_bound(tree):
 
 def functions_in(tree):
     return [node for node in ast.walk(tree) if isinstance(node, ast.FunctionDef)]
+
+
+def methods_in(tree):
+    """The functions that stand in the classes of a tree, by name."""
+    return {node.name: node for cls in ast.walk(tree) if isinstance(cls, ast.ClassDef) for node in cls.body
+            if isinstance(node, ast.FunctionDef)}
+
+
+def is_generator(function):
+    """Whether a function yields."""
+    return any(isinstance(part, (ast.Yield, ast.YieldFrom)) for part in ast.walk(function))
 
 
 MODIFYING = set("append clear extend insert pop remove reverse setdefault update add discard".split())
@@ -133,12 +144,12 @@ class Language(unittest.TestCase):
             imported = [part.name for node in tree.body if isinstance(node, ast.ImportFrom) for part in node.names]
             used = {node.id for node in ast.walk(tree) if isinstance(node, ast.Name)}
             self.assertEqual([part for part in imported if part not in used], [], name)
-            self.assertEqual(set(imported) & set(names_bound(tree)), set(), name)
+            # A method may have the name of what is imported.
+            self.assertEqual(set(imported) & (set(names_bound(tree)) - set(methods_in(tree))), set(), name)
 
     def test_names(self):
         for name, tree in self.trees.items():
-            methods = {node.name for cls in ast.walk(tree) if isinstance(cls, ast.ClassDef) for node in cls.body
-                       if isinstance(node, ast.FunctionDef)}
+            methods = set(methods_in(tree))
             for bound in names_bound(tree):
                 self.assertTrue(bound in DUNDERS or re.match(r"^_?[A-Za-z][A-Za-z0-9_]*$|^_$", bound), (name, bound))
                 self.assertNotIn(bound, NOT_NAMES, name)
@@ -185,6 +196,31 @@ class Language(unittest.TestCase):
                         walked = walked.union(*[same.get(thing, set()) for thing in walked])
                         changed = {thing for row in node.body for thing in modified_in(row)}
                         self.assertEqual(walked & changed, set(), f"{name}:{node.lineno}")
+
+    def test_names_of_properties_are_not_those_of_methods(self):
+        decorated, plain, stored = set(), set(), set()
+        for _, node in self.each_node():
+            if isinstance(node, ast.ClassDef):
+                for part in node.body:
+                    if isinstance(part, ast.FunctionDef):
+                        names = [name.id for name in part.decorator_list]
+                        (decorated if "property" in names else plain).add(part.name)
+            if isinstance(node, ast.Attribute) and isinstance(node.ctx, ast.Store):
+                stored.add(node.attr)
+        self.assertEqual(decorated & (plain | stored | METHODS), set())
+        self.assertEqual(plain & stored, set())
+
+    def test_names_of_generators_are_those_of_generators_alone(self):
+        functions = [node for tree in self.trees.values() for node in functions_in(tree)]
+        generators = {node.name for node in functions if is_generator(node)}
+        self.assertEqual([node.name for node in functions if node.name in generators and not is_generator(node)], [])
+        self.assertEqual(generators & METHODS, set())
+
+    def test_finally_only_counts(self):
+        for where, node in self.each_node():
+            if isinstance(node, ast.Try):
+                for part in node.finalbody:
+                    self.assertRegex(ast.unparse(part), r"^self\._finished \+= 1$", where)
 
     def test_docstrings(self):
         for name, tree in self.trees.items():

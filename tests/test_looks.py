@@ -139,6 +139,11 @@ class Looks(Exact):
             self.confirmed(CASE, sales, (), 0)
             self.confirmed(CASE, sales, (0, 1, 2, 3), 0)
 
+    def test_a_book_without_rows(self):
+        case = (((("tank", "heap"),), ()), (), ("ash", "elm"), 1)
+        self.told("clean", settled_as, case, ())
+        self.confirmed(case, (), (), 0)
+
     def test_looks_that_are_needed_together(self):
         """All of three sales, one after the other; or one look ahead of them that settles more."""
         rows = (("come", "tank", "ash", 9), *[("sell", "tank", 3)] * 3)

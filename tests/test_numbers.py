@@ -58,6 +58,17 @@ class SmallBooks(Exact):
             case = random_case(seed + 40, 8, 2, findings=6)
             self.compared((*case[:2], tuple(LOTS), 1 + seed % 2), seed)
 
+    def test_a_book_without_rows(self):
+        for suspects, few, lots in [((), 0, ()), (("ash", "elm"), 0, ()), (("ash", "elm"), 1, ("elm",)), (("ash", "elm"), 2, ("ash", "elm"))]:
+            case = (((("tank", "heap"),), ()), (), suspects, few)
+            self.told((0,), numbers_of, case, ())
+            self.told(0, least_number, case, (), lots)
+            self.told(0, greatest_number, case, (), lots)
+            self.told((), story_with, case, (), lots, 0)
+            self.told(None, story_with, case, (), lots, 1)
+            for word in ("least", "greatest"):
+                self.told((word, 0), lets_number, case, (), lots, number_paper(case, (), lots, word))
+
     def test_the_least_is_the_same_by_all_lots(self):
         for seed in range(60):
             case = random_case(seed, 8, 3)

@@ -116,6 +116,11 @@ class Existence(Exact):
         self.told(2, lets_base, CASE, (5,), 1, BASE)
         self.told(2, lets_base, case=CASE, sales=(5,), number=1, thing=BASE)
 
+    def test_a_book_without_rows(self):
+        case = (((("tank", "heap"),), ()), (), ("ash", "elm"), 1)
+        self.confirmed(case, (), {0})
+        self.told(0, worst_number, case, ())
+
     def test_by_name_and_unchanged(self):
         self.told(shield_of(CASE, (3,), 2), shield_of, CASE, (3,), 2)
         self.exactly(shield_of(case=CASE, sales=(3,), number=2), shield_of(CASE, (3,), 2))
