@@ -2,7 +2,7 @@
 from lotback.contents import units_there
 from lotback.errors import NoStory, NotUsable
 from lotback.explaining import is_explained
-from lotback.kinds import are_numbers, is_index, is_name, is_number
+from lotback.kinds import are_numbers, is_index, is_number
 from lotback.rowfacts import names_of
 from lotback.usable import check_sales
 
@@ -29,7 +29,7 @@ def check_places(case, places):
         raise NotUsable("places", -1)
     names = names_of(case[0][0])
     for k, place in enumerate(places):
-        if not is_name(place) or place not in names or (k > 0 and place <= places[k - 1]):
+        if place not in names or (k > 0 and place <= places[k - 1]):
             raise NotUsable("places", k)
     if len(places) == 0:
         raise NotUsable("places", -1)
@@ -43,7 +43,7 @@ def check_units(case, places, units):
 
 def is_fill(case, places, thing):
     """Whether any value has a number for each of these places, at most what is there, not all 0."""
-    if not isinstance(thing, tuple) or not are_numbers(thing) or len(thing) != len(places):
+    if not are_numbers(thing) or len(thing) != len(places):
         return False
     return sum(thing) > 0 and all([n <= most for n, most in zip(thing, units_there(case[0], places))])
 

@@ -10,7 +10,7 @@ from lotback.houselines import event_line, slashed
 from lotback.houseread import read_log
 from lotback.houserules import case_behind, reason_against, reason_ahead, risk_of_sale
 from lotback.housetables import table_of
-from lotback.kinds import is_name, is_row
+from lotback.kinds import is_row
 from lotback.looks import fewest_looks
 from lotback.numbers import numbers_of
 from lotback.orders import fills, safest
@@ -91,7 +91,7 @@ class House:
         return len(self._rows)
 
     def __contains__(self, x):
-        return is_name(x) and x in self._case[2]
+        return x in self._case[2]
 
     def __eq__(self, other):
         return isinstance(other, House) and self._log == other._log

@@ -93,9 +93,9 @@ class Outlook:
         return 1 + max(behind)
 
     def best_look(self, told):
-        """The index of a parcel to look at first, with the fewest looks; None if there is none."""
+        """The index of a parcel to look at first of looks that settle the case; None if none is needed."""
         fewest = self.fewest(told)
-        if fewest is None or fewest == 0:
+        if fewest == 0:
             return None
         return [k for k in untold(told) if self.fewest_by(told, k) == fewest][0]
 

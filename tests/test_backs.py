@@ -221,6 +221,17 @@ class Checker(Exact):
         self.refused("few", 1, (*EXAMPLE[:2], (story, ((3, ()), (5, None)))))
         self.told(6, lets_back, CASE, 2, (*EXAMPLE[:2], (story, ((3, (BAD, ((5, ()),))), (5, ())))))
 
+    def test_few_by_one_unit(self):
+        rows = (("come", "tank", "ash", 4), ("sell", "tank", 2), ("sell", "tank", 1), ("sell", "tank", 1))
+        case = (((("tank", "heap"),), rows), (), ("ash",), 1)
+        shield = shield_of(case, (1, 3), 3)
+        self.refused("few", 0, ((2,), shield, ()), 3, case)
+        every = ((4,), (2,), (1,), (1,))
+        self.told(1, lets_back, case, 3, ((2,), shield, (every, ((1, ()), (2, ()), (3, ())))))
+        # Two units are lacking; each of sales 2 and 3 on the way has one.
+        shield = shield_of(case, (2, 3), 2)
+        self.refused("few", 2, ((1,), shield, (every, ((1, ()), (2, ()), (3, ())))), 2, case)
+
     def test_story(self):
         for story in [*ODD, None, (), BAD[:5], [BAD], ((0,), (0,), (0,), (0,), (1,), (0, 1)), ((1,), (0,), (1,), (0,), (0,), (1, 0)), ((4,), (0,), (4,), (0,), (0,), (5, 0))]:
             self.refused("story", 0, (*EXAMPLE[:2], (story, ((5, ()),))))

@@ -232,6 +232,12 @@ class Events(Exact):
         self.refused(house, ("find", "clean", 0), "story")
         self.refused(house, ("find", "bad", 4), "story")
         self.refused(house, ("find", "clean", 2), "there")
+        # Ahead of what no story explains: the one unit of ash is what was sold.
+        one = House(TANK)
+        one.do_all(("come", "tank", "ash", 1), ("sell", "tank", 1), ("suspect", "ash"), ("few", 1), ("find", "bad", 0), ("find", "bad", 1))
+        self.refused(one, ("find", "clean", 1), "there")
+        self.exactly(one.undo(), ("find", "bad", 1))
+        self.refused(one, ("find", "clean", 1), "story")
 
     def test_suspects_and_few(self):
         house = example()
@@ -390,6 +396,9 @@ class Courses(Exact):
                 self.exactly(facts(house), facts(wanted))
                 self.exactly(facts(wanted) == kept, keep is not True)
                 self.exactly(house.counts(), (counts[0] + 1, counts[1] + 1))
+        house = example()
+        self.raising(InvalidEvent(None, "shape"), house.do_all, *good, None)
+        self.exactly(facts(house), facts(example()))
         house = House(TANK)
         self.raising(InvalidEvent(("few", 1), "full"), house.do_all, *[("few", 1 - k % 2) for k in range(41)], keep=True)
         self.exactly(len(house.log()), 41)

@@ -107,6 +107,10 @@ class Plans(Exact):
                 self.thirds("end", 2, ("look", 1, plan[2], (word, pairs)))
             self.refused("end", 0, (word, shield_of(CASE, (3,), 2)))
             self.refused("end", 0, (word, base_of(CASE, (3,), 0)))
+        # A shield for 1, and none for 0: one unit that can be bad.
+        unit = (((("tank", "heap"),), (("come", "tank", "ash", 2), ("sell", "tank", 1))), (), ("ash",), 1)
+        self.refused("end", 0, ("clean", shield_of(unit, (1,), 1)), unit, (1,), (0,))
+        self.refused("end", 0, ("bad", base_of(unit, (1,), 0)), unit, (1,), (0,))
         # Those of the other word; those of another number; those of other findings on the way.
         bad, clean = plan[2], plan[3][3][3]
         self.thirds("end", 1, ("look", 1, ("clean", bad[1]), plan[3]))

@@ -191,6 +191,7 @@ class Looks(Exact):
             self.raising(NoStory(("ash", "elm")), call, case=case, sales=(), parcels=())
             self.raising(NoStory(()), call, BARRED, (3,), (0, 1))
         # Wrong sales and wrong parcels ahead of NoStory: there is a finding about this one.
+        self.raising(NotUsable("sales", 0), settled_as, case, (2,))
         for call in (fewest_looks, look_plan, looks_paper):
             self.raising(NotUsable("parcels", 0), call, case, (3,), (2,))
             self.raising(NotUsable("sales", 0), call, case, (2,), (2,))
