@@ -16,10 +16,11 @@ class Desk:
     def say(self, row):
         """The answer to any string."""
         self._started += 1
+        finished = self._finished + 1
         try:
             return self._answer(row)
         finally:
-            self._finished += 1
+            self._finished = finished
 
     def _answer(self, row):
         """The answer, not counted."""

@@ -168,6 +168,44 @@ class Desks(Exact):
             many += 1
             self.exactly(desk.counts(), (many, many))
 
+    def test_counts_of_answers_and_errors_in_any_order(self):
+        """Behind each call as many were started as finished; answers and errors stay the same, whatever was said ahead."""
+        answered = [("count", "10"), ("units tank", "1"), ("numbers 3 5", "1 2 3 4"), ("back 2", "6"), ("suspects", "ash cedar"), ("log", " / ".join(map(event_line, EVENTS)))]
+        refused = [("", InvalidRow("")), ("few 1 1", InvalidRow("few 1 1")), ("house plain tank", InvalidRow("house plain tank")),
+                   ("few 0", InvalidEvent(("few", 0), "story")), ("sell tank 2", InvalidEvent(("sell", "tank", 2), "row")), ("units shed", NotUsable("place", -1)),
+                   ("risk tank 2", NotUsable("row", -1)), ("numbers 5 3", NotUsable("sales", 1)), ("house plain tank heap line pipe", InvalidPaper("places", -1))]
+        mixed = [thing for pair in zip(answered, refused) for thing in pair]
+        orders = [answered, answered * 3, refused, refused * 3, answered + refused, refused + answered, mixed * 2, [*mixed[::-1], *mixed]]
+        orders.extend(random.Random(seed).choices(answered + refused, k=30) for seed in range(6))
+        for order in orders:
+            desk = example()
+            self.say_each(desk, order, 11)
+            self.asked(desk, count="10", rows="6")
+
+    def test_counts_of_changes(self):
+        """Also events, undoing and other Houses, with errors between them."""
+        desk = Desk()
+        said = [("undo", InvalidRow("undo")), ("few 1", InvalidRow("few 1")), ("house plain line pipe tank heap", "ok"), ("undo", NothingToUndo(0)), ("undo", NothingToUndo(0)),
+                ("come tank ash 4", "0"), ("sell tank 5", InvalidEvent(("sell", "tank", 5), "row")), ("sell tank 2", "1"), ("suspect ash", "- -"),
+                ("suspect ash", InvalidEvent(("suspect", "ash"), "there")), ("few 1", "- ash"), ("find bad 1", "ash ash"), ("few 0", InvalidEvent(("few", 0), "story")),
+                ("undo", "find bad 1"), ("undo", "few 1"), ("house plain tank heap line pipe", InvalidPaper("places", -1)), ("rows", "2"), ("house careful tank heap", "ok"),
+                ("rows", "0"), ("undo", NothingToUndo(0)), ("", InvalidRow("")), ("count", "0")]
+        self.say_each(desk, said, 0)
+        self.say_each(desk, said[3:5] * 2, len(said))
+        # Of another desk nothing is counted.
+        other = Desk()
+        self.say_each(other, said, 0)
+        self.exactly(desk.counts(), (len(said) + 4, len(said) + 4))
+
+    def say_each(self, desk, said, many):
+        """Say strings with their answers or errors to a desk that has counted so many, and compare its counts behind each."""
+        for k, (text, wanted) in enumerate(said):
+            if isinstance(wanted, str):
+                self.exactly(desk.say(text), wanted)
+            else:
+                self.raising(wanted, desk.say, text)
+            self.exactly(desk.counts(), (many + k + 1, many + k + 1))
+
     def test_as_the_house(self):
         """Random events by a desk and by a House."""
         for seed in range(12):
