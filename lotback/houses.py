@@ -105,13 +105,14 @@ class House:
     def go(self, event):
         """Let an event, any value, happen; its answer."""
         self._started += 1
+        finished = self._finished + 1
         try:
             self._take(self._longer(self._course, event))
             if is_row(event):
                 return len(self._rows) - 1
             return surely_bad(self._case), can_be_bad(self._case)
         finally:
-            self._finished += 1
+            self._finished = finished
 
     def come(self, place, lot, n):
         """Units of a lot come into a place."""
@@ -213,6 +214,7 @@ class House:
     def do_all(self, *events, keep=False):
         """Let events, any values, happen; how many. Behind an error those ahead of it stay only if keep is True."""
         self._started += 1
+        finished = self._finished + 1
         try:
             if keep is True:
                 for event in events:
@@ -221,7 +223,7 @@ class House:
                 self._take(self._behind(events))
             return len(events)
         finally:
-            self._finished += 1
+            self._finished = finished
 
     def tried(self, *events):
         """The case behind events, any values; the House stays as it is."""
@@ -231,6 +233,7 @@ class House:
     def undo(self):
         """Take the last event back; tell it."""
         self._started += 1
+        finished = self._finished + 1
         try:
             log, cases = self._course
             if len(log) == 1:
@@ -238,7 +241,7 @@ class House:
             self._take((log[:-1], cases[:-1]))
             return log[-1]
         finally:
-            self._finished += 1
+            self._finished = finished
 
     def log(self):
         """The tuple of ("house", places, careful) and of the events."""

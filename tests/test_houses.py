@@ -5,7 +5,7 @@ import random
 from lotback.backs import back_sets, fewest_back
 from lotback.bookobjects import Book
 from lotback.casechecker import lets_case
-from lotback.errors import InvalidEvent, InvalidPaper, NothingToUndo, NotUsable
+from lotback.errors import InvalidEvent, InvalidPaper, LotError, NothingToUndo, NotUsable
 from lotback.explaining import is_explained
 from lotback.guilt import can_be_bad, cleared, surely_bad
 from lotback.houseevents import is_event
@@ -427,6 +427,121 @@ class Courses(Exact):
         with self.assertRaises(NothingToUndo):
             empty.undo()
         self.exactly(empty.counts(), (1, 1))
+
+    def each_counted(self, house, calls):
+        """Call with answers or errors, and compare the counts behind each call: one started and one finished more."""
+        many, finished = house.counts()
+        for k, (call, args, more, wanted) in enumerate(calls):
+            if isinstance(wanted, LotError):
+                self.raising(wanted, call, *args, **more)
+            else:
+                self.exactly(call(*args, **more), wanted)
+            self.exactly(house.counts(), (many + k + 1, finished + k + 1))
+
+    def in_rows_and_mixed(self, answered, refused):
+        """Orders of calls, none of which hangs on the others."""
+        mixed = [call for pair in zip(answered, refused) for call in pair]
+        yield from [answered * 2, refused * 3, answered + refused, refused + answered, mixed * 2, mixed[::-1]]
+        for seed in range(6):
+            yield random.Random(seed).choices(answered + refused, k=20)
+
+    def refusals(self, house):
+        """Calls of the example that are refused, by go, by a call of the House and by its own methods."""
+        told = [(house.go, None, "shape"), (house.go, ("few", 1), "same"), (house, ("few", 0), "story"), (house, ["few", 2], "shape"),
+                (house.come, ("come", "tank", "ash", 0), "shape"), (house.move, ("move", "line", "line", 1), "row"), (house.sell, ("sell", "tank", 2), "row"),
+                (house.waste, ("waste", "shed", 1), "row"), (house.back, ("back", 4, "tank"), "row"), (house.find, ("find", "clean", 5), "there"),
+                (house.suspect, ("suspect", "ash"), "there"), (house.clear, ("clear", "yew"), "missing"), (house.set_few, ("few", True), "shape")]
+        return [(call, (event,) if call in (house.go, house) else event[1:], {}, InvalidEvent(event, reason)) for call, event, reason in told]
+
+    def test_counts_of_refused_events(self):
+        house = example()
+        kept = facts(house)
+        refused = self.refusals(house)
+        self.each_counted(house, refused)
+        self.each_counted(house, refused[::-1])
+        for call in refused:
+            self.each_counted(house, [call] * 3)
+        self.exactly((facts(house), house.counts()), (kept, (1 + 5 * len(refused),) * 2))
+
+    def test_counts_of_events(self):
+        """Events by go, by a call of the House and by its own methods, in a row and with refused ones between them."""
+        for between in (0, 1, 3):
+            house = example()
+            told = [(house.go, (("find", "clean", 3),), ((), ("ash", "cedar"))), (house, (("suspect", "elm"),), ((), ("ash", "cedar"))), (house.come, ("tank", "ash", 3), 6),
+                    (house.move, ("tank", "line", 2), 7), (house.sell, ("tank", 1), 8), (house.waste, ("line", 2), 9), (house.back, (8, "tank"), 10),
+                    (house.find, ("bad", 4), (("cedar",), ("cedar",))), (house.suspect, ("oak",), (("cedar",), ("cedar",))),
+                    (house.clear, ("elm",), (("cedar",), ("cedar",))), (house.set_few, (2,), (("cedar",), ("ash", "cedar")))]
+            refused = [(house.go, (None,), {}, InvalidEvent(None, "shape")), (house, (("clear", "yew"),), {}, InvalidEvent(("clear", "yew"), "missing")),
+                       (house.sell, ("tank", 99), {}, InvalidEvent(("sell", "tank", 99), "row"))]
+            for call, args, wanted in told:
+                self.each_counted(house, [(call, args, {}, wanted), *refused[:between]])
+            self.exactly(house.counts(), (1 + len(told) * (1 + between),) * 2)
+            again = House(PLACES)
+            for event in house.log()[1:]:
+                again(event)
+            self.exactly((again == house, again.counts()), (True, (len(EVENTS) + len(told),) * 2))
+
+    def test_counts_of_do_all(self):
+        """One for each do_all, however many events are in it, with keep and without."""
+        back = (("suspect", "elm"), ("clear", "elm"))
+        house = House(PLACES)
+        answered = [(house.do_all, (), {}, 0), (house.do_all, (), {"keep": True}, 0), (house.do_all, back, {"keep": False}, 2)]
+        refused = [(house.do_all, (None,), {}, InvalidEvent(None, "shape")), (house.do_all, (*back * 3, ("few", 0)), {}, InvalidEvent(("few", 0), "same")),
+                   (house.do_all, (("clear", "elm"), *back), {"keep": True}, InvalidEvent(("clear", "elm"), "missing"))]
+        for order in self.in_rows_and_mixed(answered, refused):
+            while len(house.log()) > 1:
+                house.undo()
+            self.each_counted(house, order)
+        full = House(PLACES)
+        self.each_counted(full, [(full.do_all, (*back * 20,), {"keep": True}, 40)] + [(full.do_all, back, {"keep": True}, InvalidEvent(back[0], "full"))] * 3
+                          + [(full.do_all, (), {}, 0)] * 2)
+        self.exactly((full.counts(), len(full.log())), ((6, 6), 41))
+
+    def test_counts_of_do_all_that_keeps(self):
+        """The events ahead of the failing one stay, and are not counted."""
+        house = example()
+        wrong = (house.do_all, (("few", 2), ("few", 1), None, ("few", 3)), {"keep": True}, InvalidEvent(None, "shape"))
+        good = (house.do_all, (("few", 2), ("few", 1)), {"keep": True}, 2)
+        self.each_counted(house, [wrong, wrong, good, good, wrong, good, wrong])
+        self.exactly((house.counts(), len(house.log())), ((8, 8), 25))
+
+    def test_counts_of_undo(self):
+        """Undoing to the beginning and further, and again with events between."""
+        house = example()
+        back = [(house.undo, (), {}, event) for event in EVENTS[::-1]]
+        none = [(house.undo, (), {}, NothingToUndo(0))]
+        self.each_counted(house, back[:3])
+        self.each_counted(house, back[3:] + none * 4)
+        self.exactly(house.counts(), (15, 15))
+        done, undone = [(house.go, (("few", 1),), {}, ((), ()))], [(house.undo, (), {}, ("few", 1))]
+        wrong = [(house.go, (("few", 0),), {}, InvalidEvent(("few", 0), "same"))]
+        self.each_counted(house, done + undone + none + done + undone + done + undone + none * 2 + wrong + none + wrong * 2)
+        self.exactly((house.counts(), facts(house)), ((28, 28), facts(House(PLACES))))
+
+    def test_counts_at_random(self):
+        """Events, do_all and undo in any order; of a House to which nothing happens nothing is counted."""
+        for seed in range(8):
+            dice = random.Random(seed)
+            house, other = House(PLACES), House(PLACES)
+            for k in range(60):
+                self.exactly(house.counts(), (k, k))
+                kept, word = house.log(), dice.choice(["go", "call", "all", "keep", "undo", "wrong"])
+                if word == "undo":
+                    if len(kept) == 1:
+                        self.raising(NothingToUndo(0), house.undo)
+                    else:
+                        self.exactly((house.undo(), house.log()), (kept[-1], kept[:-1]))
+                    continue
+                event = None if word == "wrong" else random_event(dice, house.case, 4)
+                reason = house.barred(event)
+                call = {"go": house.go, "call": house}.get(word, house.do_all)
+                more = {"keep": True} if word == "keep" else {}
+                if reason is None:
+                    call(event, **more)
+                else:
+                    self.raising(InvalidEvent(event, reason), call, event, **more)
+                self.exactly(house.log(), (*kept, event) if reason is None else kept)
+            self.exactly((house.counts(), other.counts()), ((60, 60), (0, 0)))
 
     def test_not_counted(self):
         """Questions, trials and the making of a House."""

@@ -88,6 +88,26 @@ def same_things(function):
     return same
 
 
+def is_plain_assignment(row):
+    """Whether a row assigns a name, an attribute or a literal to one name or attribute: without + and -."""
+    return (isinstance(row, ast.Assign) and len(row.targets) == 1 and isinstance(row.targets[0], (ast.Name, ast.Attribute))
+            and isinstance(row.value, (ast.Name, ast.Attribute, ast.Constant)))
+
+
+def wrong_in_finally(tree):
+    """Yield the lines of those rows of each finally that do more than assign, or read what is not told ahead of the try."""
+    for function in functions_in(tree):
+        for node in ast.walk(function):
+            if isinstance(node, ast.Try):
+                told = {part.arg for part in ast.walk(function.args) if isinstance(part, ast.arg)}
+                told.update(part.id for part in ast.walk(function)
+                            if isinstance(part, ast.Name) and isinstance(part.ctx, ast.Store) and part.lineno < node.lineno)
+                for row in node.finalbody:
+                    read = {part.id for part in ast.walk(row) if isinstance(part, ast.Name) and isinstance(part.ctx, ast.Load)}
+                    if not is_plain_assignment(row) or read - told:
+                        yield row.lineno
+
+
 class Language(unittest.TestCase):
     def setUp(self):
         self.texts = {path.stem: path.read_text(encoding="utf-8") for path in FILES}
@@ -216,11 +236,17 @@ class Language(unittest.TestCase):
         self.assertEqual([node.name for node in functions if node.name in generators and not is_generator(node)], [])
         self.assertEqual(generators & METHODS, set())
 
-    def test_finally_only_counts(self):
-        for where, node in self.each_node():
-            if isinstance(node, ast.Try):
-                for part in node.finalbody:
-                    self.assertRegex(ast.unparse(part), r"^self\._finished \+= 1$", where)
+    def test_finally_only_assigns_what_was_told_ahead(self):
+        for name, tree in self.trees.items():
+            self.assertEqual(list(wrong_in_finally(tree)), [], name)
+
+    def test_wrong_rows_of_a_finally_are_seen(self):
+        head = "def go(self, k):\n    much = 1\n    try:\n        late = 2\n    finally:\n        "
+        for row in ["self.n = much", "self.n = k", "self.n = self.much", "self.n = 1"]:
+            self.assertEqual(list(wrong_in_finally(ast.parse(head + row))), [], row)
+        for row in ["self.n += 1", "self.n -= 1", "self.n = self.n + 1", "self.n = much - 1", "self.n = late", "self.n = other", "self.go(1)", "self.n = self.n2 = 1",
+                    "self.n = -1", "if much: self.n = 1", "return much", "self.ns[0] = 1", "n: int = 1"]:
+            self.assertEqual(list(wrong_in_finally(ast.parse(head + row))), [6], row)
 
     def test_docstrings(self):
         for name, tree in self.trees.items():
